@@ -1,0 +1,1 @@
+"""Crossnest: where values live, for all runs of procedures that stop and are resumed."""
