@@ -46,18 +46,18 @@ class Choice:
 
     def row_of(self, program, seat, visit, ins):
         """Do a visit, the values coming in at these INS; give its triple (ins, outs, moves)."""
-        for guess, names in enumerate(ins):
-            for name in names:
+        for guess, come in enumerate(ins):
+            for name in come:
                 self.guess_at[(0, name)] = guess
         moves = list(range(len(self.pattern) + 1))
         for event, turn in enumerate(self.walk.turns):
             if turn == visit:
                 moves = self.move(event, moves)
         names = program[seat[0]][1][visit]
-        outs = [
-            tuple([name for name in names if self.guess_at.get((0, name)) == guess])
-            for guess in range(len(self.chosen))
-        ]
+        held = [self.guess_at.get((0, out)) for out in names]
+        outs = []
+        for number in range(len(self.chosen)):
+            outs.append(tuple([out for out, told in zip(names, held) if told == number]))
         return ins, tuple(outs), tuple(moves)
 
 
@@ -114,9 +114,11 @@ def family_of(program, plans, pattern, thing):
 
 def keeps_within(kind, key, family):
     """Tell whether all that comes under this key of results of a family is in it."""
-    waiting, seen = [state for _, state, _ in kind.starts(key)], {}
+    waiting, seen = [start[1] for start in kind.starts(key)], {}
     while waiting:
-        for wanted, outcome in kind.run(waiting.pop()):
+        state = waiting.pop()
+        outcomes = kind.run(state)
+        for wanted, outcome in outcomes:
             if wanted is None:
                 if outcome not in family.get(key, {}):
                     return False

@@ -50,8 +50,9 @@ class Growth:
         if len(self.coming) == 0:
             return False
         size = min(self.coming)
+        coming = self.coming.pop(size)
         results, states = {}, {}
-        for key, rule, wanted, outcome, trees in self.coming.pop(size):
+        for key, rule, wanted, outcome, trees in coming:
             if wanted is None:
                 self.keep_least(results, (key, outcome), (rule, trees))
             else:
@@ -74,7 +75,8 @@ class Growth:
         self.settled[(key, result)] = True
         if not self.kind.wants(result, self.found[key]):
             return
-        for worse in self.kind.worse(result, self.found[key]):
+        dropped = self.kind.worse(result, self.found[key])
+        for worse in dropped:
             del self.found[key][worse]
         self.found[key][result] = (size, tree)
         self.join_with_waiting(key, result, size, tree)

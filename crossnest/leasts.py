@@ -8,7 +8,8 @@ def size_of(tree):
     many, waiting = 0, [tree]
     while waiting:
         many += 1
-        waiting.extend(waiting.pop()[1])
+        part = waiting.pop()
+        waiting.extend(part[1])
     return many
 
 

@@ -72,8 +72,8 @@ class Plan:
             at += 1
         for place, ports in enumerate(self.ports):
             self.offsets.append(at)
-            for name, bit in ports.bits.items():
-                self.bits[(place, name)] = bit << at
+            for number, name in enumerate(ports.names):
+                self.bits[(place, name)] = 1 << at + number
             at += len(ports.names)
 
     def mask_of(self, words):

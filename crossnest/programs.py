@@ -163,7 +163,8 @@ def called_from(program, procedure):
     """Give a dict with the PROCEDURES to which calls, one or more, lead from here as keys."""
     found, waiting = {}, [procedure]
     while waiting:
-        for callees, _ in program[waiting.pop()][2]:
+        rules = program[waiting.pop()][2]
+        for callees, _ in rules:
             for callee in callees:
                 if callee not in found:
                     found[callee] = True

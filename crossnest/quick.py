@@ -8,9 +8,9 @@ def is_never_handed(program, lot):
     """Tell whether no hand has a WORD of a pair of the LOT as its other."""
     for number, procedure in enumerate(program):
         for rule in procedure[2]:
-            for step in [step for row in rule[1] for step in row]:
-                if step[0] == "hand" and pair_of(number, rule, step[2]) in lot:
-                    return False
+            hands = [step for row in rule[1] for step in row if step[0] == "hand"]
+            if [step for step in hands if pair_of(number, rule, step[2]) in lot]:
+                return False
     return True
 
 

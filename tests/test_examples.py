@@ -1,0 +1,158 @@
+"""The examples of the document, as they stand there, each point behind the ones ahead of it."""
+
+import unittest
+
+from crossnest import alive, choices, entries, errors, openings, profiles, programs, runs, trees
+
+PROGRAMS = r'''
+>>> once = ((((),), (("r",),), (((), ((("make", "x", ()), ("make", "r", ("x",))),)),)),)
+>>> top = (((),), (("r",),), (((1,), ((("make", (0, "d"), ()), ("go", 0), ("make", "r", ((0, "u"),))),)),))
+>>> leaf = ((), ((("make", "u", ("d",)),),))
+>>> node = ((1,), ((("make", (0, "d"), ("d",)), ("go", 0), ("make", "u", ("d", (0, "u")))),))
+>>> deep = (top, ((("d",),), (("u",),), (leaf, node)))
+>>> pair = ((1, 1), ((("go", 0), ("go", 1), ("go", 0), ("go", 1), ("make", "r", ((0, "u"), (1, "u")))),))
+>>> part = ((), ((("make", "a", ()),), (("make", "u", ("a",)),)))
+>>> twice = ((((),), (("r",),), (pair,)), (((), ()), ((), ("u",)), (part,)))
+>>> is_program(once), is_program(deep), is_clean(twice), is_program((top,)), is_program([once[0]])
+(True, True, True, False, False)
+>>> early = (((),), (("r",),), (((), ((("make", "r", ("x",)),),)),))
+>>> late = (((),), (("r",),), (((), ((("make", "x", ()),),)),))
+>>> fault((early,)), fault((late,)), fault(deep)
+((0, 0, 0, 0), (0, 0, 0, 1), None)
+>>> fruitful((top, ((("d",),), (("u",),), (node,)))), reached(deep), trimmed(deep + (once[0],)) == deep
+((), (0, 1), True)
+>>> names_of(deep, 1), pairs_of(twice), calls(deep), rings(deep)
+(('d', 'u'), ((0, 'r'), (1, 'a'), (1, 'u')), ((0, 1), (1, 1)), (1,))
+>>> makers(deep, 1, "d"), readers(deep, 1, "d"), readers(deep, 1, "u")
+(((0, 0, 0, 0), (1, 1, 0, 0)), ((1, 0, 0, 0), (1, 1, 0, 0), (1, 1, 0, 2)), ((0, 0, 0, 2), (1, 1, 0, 2)))
+>>> makers(deep, 1, "x")
+raises NoName(name='x')
+>>> trimmed((top, ((("d",),), (("u",),), (node,))))
+raises CanNot()
+'''
+
+TREES = r'''
+>>> is_tree(once, 0, (0, ())), is_tree(deep, 1, (1, ((0, ()),))), is_tree(deep, 0, (0, ()))
+(True, True, False)
+>>> tree = (0, ((1, ((0, ()),)),))
+>>> nodes(tree), depth(tree), paths(tree), at_path(tree, (0, 0)), procedure_of(deep, tree, (0,))
+(3, 3, ((), (0,), (0, 0)), (0, ()), 1)
+>>> put_at(deep, tree, (0,), (0, ())), trees_of(deep, 0, 3), least_tree(deep, 0), least_by(deep, 1, 1)
+((0, ((0, ()),)), [(0, ((0, ()),)), (0, ((1, ((0, ()),)),))], (0, ((0, ()),)), (1, ((0, ()),)))
+>>> tree_having(deep, 1, 1), tree_having(twice, 1, 0)
+(((0, ((1, ((0, ()),)),)), (0,)), ((0, ((0, ()), (0, ()))), (0,)))
+>>> pumped(deep, tree, (0,), (0,), 2), pumped(deep, tree, (0,), (0,), 0)
+((0, ((1, ((1, ((0, ()),)),)),)), (0, ((0, ()),)))
+>>> at_path(tree, (1,))
+raises NoPath(path=(1,))
+>>> pumped(deep, tree, (), (0,), 2)
+raises Unfit()
+>>> put_at(twice, (0, ((0, ()), (0, ()))), (1,), (1, ()))
+raises Unfit()
+'''
+
+RUNS = r'''
+>>> chain, pair = (0, ((1, ((0, ()),)),)), (0, ((0, ()), (0, ())))
+>>> events(deep, chain), reads_of(deep, chain, 3), origin_of(deep, chain, 1)
+([((), 0, 0), ((0,), 0, 0), ((0, 0), 0, 0), ((0,), 0, 2), ((), 0, 2), ((), 0, 3)], (0, 2), (1, 'd'))
+>>> step_of(deep, chain, 3), step_of(deep, chain, 5), uses_of(deep, chain, 0)
+(('make', 'u', ('d', (0, 'u'))), ('ask', ('r',)), (1, 3))
+>>> row_for(deep, chain, ((1, "d"),))
+(('make', 0, 0), ('use', 0, 1), ('make', 1, 1), ('use', 1, 2), ('use', 0, 3))
+>>> [value_of(deep, chain, (), (0, "u"), number) for number in (3, 4)], value_of(deep, chain, (0, 0), "d", 6)
+([None, 3], 1)
+>>> moments(deep, chain)[:3], left_behind(deep, chain, 2), open_calls(deep, chain, 2)
+([((),), ((),), ((), (0,))], (((0,), 0, 2), ((), 0, 2), ((), 0, 3)), (((0, 0), 1, 1),))
+>>> makes_of(twice, pair, ((1, "a"),)), uses_of(twice, pair, 1), gone_to(twice, pair, (1,))
+((0, 1), (3,), 2)
+>>> uses_of(deep, chain, 5)
+raises NoEvent(number=5)
+'''
+
+ALIVE = r'''
+>>> [alive_at(deep, chain, number) for number in range(7)], last_moment(deep, chain, 1), passings(deep, 1, 1)
+([(), (0,), (0, 1), (0, 2), (3,), (4,), ()], 2, [(('d', True, ()),)])
+>>> both_alive(deep, chain, ((1, "d"),)), ends_ahead(deep, chain, ((1, "d"),)), most_alive_in(deep, chain, ((1, "d"),))
+(((0, 1),), ((1, 0),), (2, 2))
+>>> lent = ((((),), (("r",),), (((1,), ((("make", (0, "x"), ()), ("go", 0), ("make", "r", ((0, "y"),))),)),)), ((("x",),), (("y",),), (((), ((("hand", "y", "x"),),)), ((), ((("make", "y", ()),),)))))
+>>> other = (0, ((1, ()),))
+>>> alive_at(lent, other, 1), alive_at(lent, other, 2), going_on(lent, other, 1, 0), going_on(lent, other, 2, 0)
+((0,), (1,), ((0, ((0, ()),)), 2), None)
+>>> passings(lent, 1, 1), passing_of(lent, 1, (0, ()), 1), can_use(lent, 1, 1, ("x",))
+([(('x', False, ()),), (('x', False, ('y',)),)], (('x', False, ('y',)),), False)
+>>> can_use(lent, 1, 1, ("y",))
+raises NoName(name='y')
+'''
+
+ENTRIES = r'''
+>>> a, d, cross = ((1, "a"),), ((1, "d"),), (("make", 0), ("make", 1), ("use", 0), ("use", 1))
+>>> seats(twice), len(entries(twice, a, cross)), is_pattern((("use", 0),))
+(((0, 1), (1, 2)), 8, False)
+>>> entry_of(twice, a, cross, (1, 2), (0, ()), (((), 0, 0), None), (((), ()), ((), ())))
+((0, -1), ((((), ()), ((), ()), (1, 1, 2, 3, 4)), (((), ()), ((), ()), (0, 1, 3, 3, 4))))
+>>> crossed = ((0, 0), ((((), ()), ((), ()), (4, 4, 4, 4, 4)),))
+>>> matched(twice, cross, crossed), entry_tree(twice, a, cross, (0, 1), crossed), is_closed(twice, a, cross, ())
+(4, (0, ((0, ()), (0, ()))), False)
+>>> least_moment(twice, a, "region"), least_moment(twice, a, "order"), least_moment(deep, d, "order")
+(((0, ((0, ()), (0, ()))), (0, 1, 3)), None, ((0, ((1, ((0, ()),)),)), (0, 1, 3)))
+'''
+
+PROFILES = r'''
+>>> profiles(twice, ((1, "a"),)), profiles_of(deep, ((1, "d"),), (1, 1), (0, ()))
+((((0, 1), (((1, 'a'), 0), ((1, 'a'), 0, 0))), ((1, 2), (((1, 'a'), 0), ((1, 'a'), 0, 1)))), ())
+>>> profile_tree(deep, ((1, "d"),), (1, 1), ((1, "d"), 0, 0)), quick_pairs(deep, ((1, "d"),), "stack")
+((1, ((0, ()),)), ())
+>>> quick_pairs(deep, ((1, "d"),), "cell"), quick_pairs(twice, ((1, "a"),), "stack"), quick_pairs(twice, ((1, "a"),), "queue")
+((((1, 'd'), (1, 'd')),), (((1, 'a'), (1, 'a')),), ())
+>>> is_quick(deep, ((1, "d"), (1, "u"))), is_quick(lent, ((1, "x"),)), is_quick(lent, ((1, "y"),))
+(True, False, True)
+'''
+
+MODULES = (errors, programs, trees, runs, alive, entries, choices, openings, profiles)
+
+
+def steps_in(text):
+    """Pairs of what is done and what is told, None where nothing is."""
+    lines = [line for line in text.split("\n") if line]
+    for line, after in zip(lines, lines[1:] + [">>> "]):
+        if line.startswith(">>> "):
+            yield line[4:], None if after.startswith(">>> ") else after
+
+
+def told_error(error):
+    parts = ", ".join(f"{name}={value!r}" for name, value in vars(error).items())
+    return f"raises {type(error).__name__}({parts})"
+
+
+class Examples(unittest.TestCase):
+    @classmethod
+    def setUpClass(cls):
+        cls.names = {}
+        for module in MODULES:
+            for name, value in vars(module).items():
+                if not name.startswith("_"):
+                    cls.names[name] = value
+        cls.done = []
+
+    def check(self, text):
+        for done, told in steps_in(text):
+            if told is None:
+                exec(done, self.names)
+                continue
+            try:
+                found = eval(done, self.names)
+            except (LookupError, ValueError) as error:
+                found = error
+            if isinstance(found, Exception):
+                self.assertEqual(told_error(found), told, done)
+            else:
+                self.assertEqual(found, eval(told, self.names), done)
+
+    # One test: names in an example are those of the nearest one ahead that sets them.
+    def test_all(self):
+        for text in (PROGRAMS, TREES, RUNS, ALIVE, ENTRIES, PROFILES):
+            self.check(text)
+
+
+if __name__ == "__main__":
+    unittest.main()
