@@ -28,7 +28,7 @@ def check_name(program, procedure, name):
 
 def local_names(procedure, rule):
     """List the locals that a RULE of this PROCEDURE sets."""
-    ports = all_names(procedure[0] + procedure[1])
+    ports = {name: True for name in all_names(procedure[0] + procedure[1])}
     words = [step[1] for row in rule[1] for step in row if step[0] != "go"]
     return [word for word in words if isinstance(word, str) and word not in ports]
 

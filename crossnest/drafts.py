@@ -74,13 +74,22 @@ def has_draft_shape(thing):
     return True
 
 
-class Reading:
-    """How far a RULE has been gone through: what is set, and how often each callee was gone to."""
+def visits_by_name(sets):
+    """Give a dict with the visit to which each of these NAMES belongs."""
+    return {name: visit for visit, names in enumerate(sets) for name in names}
 
-    def __init__(self, draft, procedure, rule):
-        self.ins, self.outs = draft[procedure][0], draft[procedure][1]
-        self.own = {name: True for name in all_names(self.ins + self.outs)}
-        self.callees = [draft[callee] for callee in rule[0]]
+
+class Reading:
+    """How far a RULE has been gone through: what is set, and how often each callee was gone to.
+
+    tables has, for each PROCEDURE, the pair of visits_by_name for its INS and its OUTS.
+    """
+
+    def __init__(self, draft, tables, procedure, rule):
+        self.outs = draft[procedure][1]
+        self.in_visits, self.out_visits = tables[procedure]
+        self.callee_ins = [draft[callee][0] for callee in rule[0]]
+        self.callee_tables = [tables[callee] for callee in rule[0]]
         self.gone = [0 for _ in rule[0]]
         self.held = {}
 
@@ -89,22 +98,23 @@ class Reading:
         if word in self.held:
             return False
         if isinstance(word, str):
-            return word in self.outs[visit] or word not in self.own
-        ins, coming = self.callees[word[0]][0], self.gone[word[0]]
-        return coming < len(ins) and word[1] in ins[coming]
+            return word not in self.in_visits and self.out_visits.get(word, visit) == visit
+        place, name = word
+        return self.callee_tables[place][0].get(name) == self.gone[place]
 
     def can_read(self, word, visit):
         """Tell whether there is a value at this WORD now."""
         if word in self.held:
             return True
         if isinstance(word, str):
-            return any([word in names for names in self.ins[:visit + 1]])
-        outs = self.callees[word[0]][1]
-        return any([word[1] in names for names in outs[:self.gone[word[0]]]])
+            return word in self.in_visits and self.in_visits[word] <= visit
+        place, name = word
+        outs = self.callee_tables[place][1]
+        return name in outs and outs[name] < self.gone[place]
 
     def can_go(self, place):
         """Tell whether the callee has a further visit all INS of which are set."""
-        ins, coming = self.callees[place][0], self.gone[place]
+        ins, coming = self.callee_ins[place], self.gone[place]
         if coming == len(ins):
             return False
         return all([(place, name) in self.held for name in ins[coming]])
@@ -131,9 +141,8 @@ class Reading:
         return visit + 1 < len(self.outs) or all([many > 0 for many in self.gone])
 
 
-def rule_fault(draft, procedure, rule):
+def rule_fault(reading, rule):
     """Give the pair (visit, step) at which the RULE is not sound, None if it is."""
-    reading = Reading(draft, procedure, rule)
     for visit, row in enumerate(rule[1]):
         for number, step in enumerate(row):
             if not reading.takes(step, visit):
@@ -145,9 +154,10 @@ def rule_fault(draft, procedure, rule):
 
 def first_fault(draft):
     """Give the fault of a draft, None if it has none."""
+    tables = [(visits_by_name(ins), visits_by_name(outs)) for ins, outs, _ in draft]
     for procedure in range(len(draft)):
         for number, rule in enumerate(draft[procedure][2]):
-            found = rule_fault(draft, procedure, rule)
+            found = rule_fault(Reading(draft, tables, procedure, rule), rule)
             if found is not None:
                 return procedure, number, found[0], found[1]
     return None

@@ -97,7 +97,7 @@ class Way:
         """End a visit."""
         outs = tuple([words & act[2] for words in self.held])
         self.rows = self.rows + ((self.ins, outs, self.moves),)
-        self.moves = tuple([number for number in range(len(self.moves))])
+        self.moves = tuple(range(len(self.moves)))
         for guess, words in enumerate(outs):
             if words and self.seen[guess] == INSIDE:
                 self.seen = replaced(self.seen, guess, LEFT)
@@ -165,7 +165,7 @@ class Guessing:
         for number, course in enumerate(self.courses(seat)):
             made = tuple([-1 for _ in ins])
             waiting = tuple([() if where is None else None for where in course.seats])
-            moves = tuple([at for at in range(len(self.pattern) + 1)])
+            moves = tuple(range(len(self.pattern) + 1))
             state = ((seat, number), 1, none, made, none, none, (), moves, waiting, self.first_extra())
             way = Way(course, state)
             way.enter(ins)

@@ -190,6 +190,7 @@ class Form(unittest.TestCase):
                 if isinstance(node, ast.Attribute):
                     (stored if isinstance(node.ctx, ast.Store) else read).add(node.attr)
         names = {name for _, name in methods}
+        self.assertEqual(names & BUILTINS, set())
         self.assertEqual(names & stored, set())
         self.assertEqual(read - stored - names - METHODS, set())
         self.assertEqual(stored & set("items keys values pop update append clear extend insert".split()), set())
