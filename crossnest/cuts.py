@@ -12,7 +12,7 @@ that at the MOMENT right behind the make of guess 1, -1 if it is not made here; 
 guesses that at the MOMENT, () if all visits are done by then. Only "region" asks past and first.
 """
 
-from crossnest.guesses import Course, Guessing, UNSEEN
+from crossnest.guesses import Course, Guessing, UNSEEN, is_coming
 from crossnest.plans import GO, HAND, LEAVE, MAKE
 from crossnest.streams import compose_all, greatest
 
@@ -90,9 +90,9 @@ class Cutting(Guessing):
         """Give past and first at the start."""
         return (), NO_FAMILY
 
-    def may_make(self, way, guess):
-        """Tell whether the value of a guess may be made now: guess 0 ahead of guess 1."""
-        return way.seen[guess] == UNSEEN and way.seen[1] == UNSEEN
+    def may_make(self, seen, guess):
+        """Tell whether the value of a guess may be made: guess 0 ahead of guess 1."""
+        return seen[guess] == UNSEEN and seen[1] == UNSEEN
 
     def family(self, plan, at, words, parts):
         """Give the family from an act on of a value at these WORDS; parts are the callees'."""
@@ -138,15 +138,14 @@ class Cutting(Guessing):
         super().make(way, act, chosen)
         if chosen == 1:
             self.note_first(way, way.held[0], None, None)
-        return True
 
     def does(self, way, act):
-        """Do an act that is no make and begins no visit; tell whether it can be so."""
+        """Do an act by which there is one Way alone; tell whether it can be so."""
         done = super().does(way, act)
         past, first = way.extra
         is_row = act[0] == LEAVE and way.visit() < way.plan.seat[1]
         # Made within, guess 1 makes past needless: only first is asked for then.
-        unmade = way.seen[1] == UNSEEN and not way.is_coming(1)
+        unmade = way.seen[1] == UNSEEN and not is_coming(way.waiting, 1)
         if is_row and self.home == "region" and unmade:
             parts = self.past_parts(way, way.at, None, None)
             way.extra = (past + (self.family(way.plan, way.at + 1, way.held[0], parts),), first)

@@ -72,13 +72,6 @@ class Way:
         self.made = replaced(self.made, guess, self.visit())
         self.seen = replaced(self.seen, guess, INSIDE)
 
-    def is_coming(self, guess):
-        """Tell whether a callee that is chosen makes the value of a guess, in a later visit."""
-        for result in self.waiting:
-            if result and result[0][guess] >= 0:
-                return True
-        return False
-
     def enter(self, ins):
         """Begin a visit, with the values of the guesses at these INS."""
         self.ins = ins
@@ -106,6 +99,14 @@ class Way:
 def replaced(row, at, part):
     """Give a tuple with part in the place of what stands at this number."""
     return row[:at] + (part,) + row[at + 1:]
+
+
+def is_coming(waiting, guess):
+    """Tell whether a callee that is chosen makes the value of a guess, in a later visit."""
+    for result in waiting:
+        if result and result[0][guess] >= 0:
+            return True
+    return False
 
 
 def spread_ins(ports, visit, open_guesses, guesses):
@@ -182,7 +183,7 @@ class Guessing:
                 if act[0] == GO and way.waiting[act[1]] is None:
                     found.append((self.wanted(way, act), way.mark()))
                     way = None
-                elif act[0] == ENTER or act[0] == MAKE:
+                elif act[0] == ENTER or (act[0] == MAKE and act[3] in self.lot):
                     ways.extend(self.branches(way, act))
                     way = None
                 elif self.does(way, act):
@@ -206,7 +207,7 @@ class Guessing:
         if act[0] == ENTER:
             guesses = [
                 guess for guess in range(self.guesses)
-                if way.seen[guess] != INSIDE and not way.is_coming(guess)
+                if way.seen[guess] != INSIDE and not is_coming(way.waiting, guess)
             ]
             for ins in spread_ins(way.plan.own, act[1], guesses, self.guesses):
                 more = way.twin()
@@ -214,25 +215,24 @@ class Guessing:
                 found.append(more)
         else:
             chosen = [None]
-            if act[3] in self.lot:
-                chosen.extend([
-                    guess for guess in range(self.guesses)
-                    if self.may_make(way, guess) and not way.is_coming(guess)
-                ])
+            chosen.extend([
+                guess for guess in range(self.guesses)
+                if self.may_make(way.seen, guess) and not is_coming(way.waiting, guess)
+            ])
             for guess in chosen:
                 more = way.twin()
-                if self.make(more, act, guess):
-                    found.append(more)
+                self.make(more, act, guess)
+                found.append(more)
         for more in found:
             more.at += 1
         return found
 
-    def may_make(self, way, guess):
-        """Tell whether the value of a guess may be made now."""
-        return way.seen[guess] == UNSEEN
+    def may_make(self, seen, guess):
+        """Tell whether the value of a guess may be made, by what is known of all of them."""
+        return seen[guess] == UNSEEN
 
     def make(self, way, act, chosen):
-        """Do a make, of the value of the chosen guess or none; tell whether it can be so."""
+        """Do a make, of the value of the chosen guess or none."""
         used, counts = [words & act[2] > 0 for words in way.held], act[3] in self.lot
         way.moves = tuple([
             matched_behind(self.pattern, at, chosen, counts, used) for at in way.moves
@@ -240,13 +240,14 @@ class Guessing:
         if chosen is not None:
             way.set_made(chosen)
             way.set_held(chosen, act[1])
-        return True
 
     def does(self, way, act):
-        """Do an act that is no make and begins no visit; tell whether it can be so."""
+        """Do an act by which there is one Way alone; tell whether it can be so."""
         if act[0] == GO:
             return self.go(way, act)
-        if act[0] == HAND:
+        if act[0] == MAKE:
+            self.make(way, act, None)
+        elif act[0] == HAND:
             way.hand(act)
         else:
             way.leave(act)
@@ -263,7 +264,7 @@ class Guessing:
                 return False
         for guess in range(self.guesses):
             if result[0][guess] == turn:
-                if not self.may_make(way, guess):
+                if not self.may_make(way.seen, guess):
                     return False
                 way.set_made(guess)
             way.set_held(guess, outs[guess] << offset)
@@ -280,12 +281,13 @@ class Guessing:
 
     def meet(self, state, result):
         """Choose a result for the callee that is waited for."""
-        way = self.way_of(state)
+        seen, waiting = state[4], state[8]
         for guess, made in enumerate(result[0]):
-            if made >= 0 and (way.is_coming(guess) or not self.may_make(way, guess)):
+            if made >= 0 and (is_coming(waiting, guess) or not self.may_make(seen, guess)):
                 return None
-        place = way.act()[1]
-        return place, state[:8] + (replaced(state[8], place, result),) + state[9:]
+        seat, number = state[0]
+        place = self.courses(seat)[number].plan.acts[state[1]][1]
+        return place, state[:8] + (replaced(waiting, place, result),) + state[9:]
 
     def wants(self, result, results):
         """Tell whether a result is to be kept."""
