@@ -99,11 +99,11 @@ def family_of(program, plans, pattern, thing):
     no tuple of pairs of a SEAT and what is shaped like an ENTRY for it."""
     if not isinstance(thing, tuple):
         return None
-    family = {}
+    family, seats = {}, seats_of(program)
     for pair in thing:
         if not is_tuple_of(pair, 2) or not is_tuple_of(pair[0], 2):
             return None
-        if not all([is_number(part) for part in pair[0]]) or pair[0] not in seats_of(program):
+        if not all([is_number(part) for part in pair[0]]) or pair[0] not in seats:
             return None
         if not has_entry_shape(program, pair[0], pattern, pair[1]):
             return None

@@ -158,7 +158,9 @@ class Cutting(Guessing):
         if not super().go(way, act):
             return False
         if result[0][1] == turn:
-            after, way.waiting = way.waiting, waiting
+            # What was known of the callees ahead of the go is asked for once more.
+            after = way.waiting
+            way.waiting = waiting
             self.note_first(way, held, place, result[3])
             way.waiting = after
         return True

@@ -35,7 +35,8 @@ class Growth:
             callees = self.kind.callees_of(key, rule)
             trees, size = [None for _ in callees], 1
             for place in places:
-                many, trees[place] = self.least[callees[place]]
+                many, tree = self.least[callees[place]]
+                trees[place] = tree
                 size += many
             self.spread(key, rule, state, size, tuple(trees))
 
