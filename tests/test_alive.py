@@ -79,7 +79,7 @@ class Passings(unittest.TestCase):
         self.assertEqual(passings(program, 1, 1), [(("a", True, ()), ("b", False, ("u", "v")))])
 
     def test_by_chance(self):
-        for seed, program in clean_programs(range(100), procedures=4, visits=3, hands=0.6):
+        for seed, program in clean_programs(range(100), procedures=4, visits=3, callees=3, hands=0.6):
             for procedure in range(len(program)):
                 for visits in range(1, len(program[procedure][0]) + 1):
                     told = passings(program, procedure, visits)
@@ -227,6 +227,18 @@ class Alive(unittest.TestCase):
         self.assertEqual(both_alive(TWICE, BOTH, A), ((0, 1),))
         self.assertEqual(ends_ahead(TWICE, BOTH, A), ((0, 1),))
         self.assertEqual(most_alive_in(TWICE, BOTH, pairs_of(TWICE)), (2, 2))
+
+    def test_the_most_may_come_late_and_the_first_moment_counts(self):
+        def most(*steps):
+            row = tuple(("make", name, tuple(words)) for name, words in steps)
+            lot = tuple((0, name) for name in "wxyz")
+            return most_alive_in(((((),), (("r",),), (((), (row,)),)),), (0, ()), lot)
+
+        self.assertEqual(most(("x", ""), ("y", "x"), ("z", ""), ("r", "yz")), (2, 3))
+        self.assertEqual(most(("x", ""), ("p", "x"), ("y", ""), ("r", "y")), (1, 1))
+        self.assertEqual(most(("x", ""), ("p", ""), ("q", "x"), ("y", ""), ("z", ""), ("r", "yz")), (2, 5))
+        # Two of them end at one MOMENT.
+        self.assertEqual(most(("x", ""), ("y", ""), ("p", "xy"), ("z", ""), ("w", ""), ("r", "zw")), (2, 2))
 
 
 class AgainstAPlainWalk(unittest.TestCase):

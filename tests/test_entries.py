@@ -217,6 +217,19 @@ class Entries(unittest.TestCase):
                         self.assertIsNotNone(least, seed)
                         self.assertLessEqual(least, (nodes(tree), tree), seed)
 
+    def test_a_value_leaves_and_comes_back_while_its_maker_waits(self):
+        inner = (((), ()), (("u",), ()), (((), ((("make", "u", ()),), ())),))
+        outer = (((), ("a",)), (("o",), ()), (
+            ((2,), ((("go", 0), ("hand", "o", (0, "u"))), (("make", "y", ("a",)), ("go", 0)))),
+        ))
+        row = (("go", 0), ("hand", (0, "a"), (0, "o")), ("go", 0), ("make", "r", ()))
+        program = ((((),), (("r",),), (((1,), (row,)),)), outer, inner)
+        lot, pattern = ((2, "u"),), (("make", 0), ("use", 0))
+        entry = ((0,), ((((),), (("o",),), (1, 1, 2)), ((("a",),), ((),), (0, 2, 2))))
+        self.assertIn(((1, 2), entry), entries(program, lot, pattern))
+        full = ((0,), ((((),), ((),), (2, 2, 2)),))
+        self.assertEqual(entry_tree(program, lot, pattern, (0, 1), full), (0, ((0, ((0, ()),)),)))
+
     def test_entry_tree_of_what_does_not_come(self):
         start = (0, 1)
         self.assertEqual(entry_tree(TWICE, A, CROSS, start, CROSSED), BOTH)
