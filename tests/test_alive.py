@@ -6,8 +6,9 @@ from crossnest.alive import (
     alive_at, both_alive, can_use, ends_ahead, going_on, is_going_on, last_moment, most_alive_in,
     passing_of, passings,
 )
+from crossnest.entries import seats
 from crossnest.errors import NoEvent, NoName, NoProcedure, TooMany
-from crossnest.programs import is_clean, pairs_of
+from crossnest.programs import is_clean, is_program, pairs_of
 from crossnest.runs import events, step_of
 from crossnest.trees import least_tree, nodes, pumped
 from tests.plain import PlainRun, agrees, plain_alive, plain_trees, rule_at
@@ -121,6 +122,37 @@ class Passings(unittest.TestCase):
                 lambda: last_moment(CROWDED, tree, 0), lambda: both_alive(CROWDED, tree, lot),
                 lambda: ends_ahead(CROWDED, tree, lot), lambda: most_alive_in(CROWDED, tree, lot),
         ):
+            with self.assertRaises(TooMany):
+                call()
+
+    def test_two_callees_wait_for_their_second_visits(self):
+        echo = ((("a",), ("c",)), (("u",), ("v",)), (((), ((("hand", "u", "a"),), (("hand", "v", "c"),))),))
+        rows = (
+            (("make", (1, "a"), ()), ("go", 1), ("make", (0, "a"), ()), ("go", 0)),
+            (("hand", (1, "c"), "q"), ("go", 1), ("hand", (0, "c"), (1, "v")), ("go", 0), ("hand", "o", (0, "v"))),
+        )
+        row = (
+            ("make", (0, "p"), ()), ("go", 0), ("make", (0, "q"), ()), ("go", 0), ("make", "r", ((0, "o"),)),
+        )
+        program = (
+            (((),), (("r",),), (((1,), (row,)),)), ((("p",), ("q",)), ((), ("o",)), (((2, 2), rows),)), echo,
+        )
+        self.assertEqual(passings(program, 1, 2), [(("p", False, ()), ("q", False, ("o",)))])
+        tree = (0, ((0, ((0, ()), (0, ()))),))
+        made = events(program, tree).index(((), 0, 2))
+        self.assertEqual(alive_at(program, tree, made + 1), (made,))
+        self.assertEqual(last_moment(program, tree, made), len(events(program, tree)) - 2)
+
+    def test_too_many_for_visits_that_nobody_asks_for(self):
+        # What CROWDED has in its one visit this callee has in its second one, to which the
+        # start does not go.
+        rules = tuple((callees, ((("go", 0),) if callees else (), rows[0])) for callees, rows in CROWDED[1][2])
+        ins, outs = CROWDED[1][0], CROWDED[1][1]
+        start = (((),), (("r",),), (((1,), ((("make", "r", ()), ("go", 0)),)),))
+        program = (start, (((),) + ins, ((),) + outs, rules))
+        self.assertTrue(is_program(program) and is_clean(program))
+        self.assertEqual(seats(program), ((0, 1), (1, 1)))
+        for call in (lambda: passings(program, 1, 1), lambda: alive_at(program, (0, ((0, ()),)), 0)):
             with self.assertRaises(TooMany):
                 call()
 

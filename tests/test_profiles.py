@@ -189,6 +189,24 @@ class Pairs(unittest.TestCase):
         self.assertEqual(quick_pairs(program, ((0, "r"), (0, "y")), "cell"), ())
         self.assertEqual(profiles_of(program, ((0, "r"),), (0, 1), (0, ((1, ()),))), (((0, "r"), 0),))
 
+    def test_two_callees(self):
+        taker = ((("d",),), (("u",),), (((), ((("make", "x", ("d",)), ("make", "u", ())),)),))
+        given = (("make", (0, "d"), ()), ("make", (1, "d"), ()))
+        d, u = (1, "d"), (1, "u")
+
+        def pairs(home, goes, uses=()):
+            row = given + tuple(("go", place) for place in goes)
+            row += tuple(("make", name, ((place, "u"),)) for name, place in uses) + (("make", "r", ()),)
+            return quick_pairs(((((),), (("r",),), (((1, 1), (row,)),)), taker), (d, u), home)
+
+        self.assertEqual(pairs("stack", (0, 1)), ((d, d),))
+        self.assertEqual(pairs("queue", (0, 1)), ())
+        self.assertEqual((pairs("stack", (1, 0)), pairs("queue", (1, 0))), ((), ((d, d),)))
+        self.assertEqual(pairs("cell", (0, 1)), ((d, d), (d, u)))
+        self.assertEqual(pairs("stack", (0, 1), (("p", 0), ("q", 1))), ((d, d), (d, u), (u, u)))
+        self.assertEqual(pairs("queue", (0, 1), (("p", 1), ("q", 0))), ((u, u),))
+        self.assertEqual(pairs("cell", (0, 1), (("p", 0), ("q", 1))), ((d, d), (d, u), (u, u)))
+
     def test_one_event_does_not_count_twice(self):
         # y is made out of x: the use of x is no later EVENT than the make of y.
         row = (("make", "x", ()), ("make", "y", ("x",)), ("make", "r", ("y", "y")))
