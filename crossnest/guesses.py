@@ -277,7 +277,7 @@ class Guessing:
         if act[2] + 1 == way.plan.goes[act[1]]:
             return ()
         made = tuple([visit if visit > act[2] else -1 for visit in result[0]])
-        return (made, result[1][1:]) + result[2:]
+        return made, result[1][1:]
 
     def meet(self, state, result):
         """Choose a result for the callee that is waited for."""

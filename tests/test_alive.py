@@ -199,6 +199,21 @@ class Alive(unittest.TestCase):
         self.assertTrue(is_going_on(OPEN_EITHER, tree, 1, 0, found))
         self.assertEqual(last_moment(OPEN_EITHER, tree, 0), 1)
 
+    def test_one_of_several_callees_that_begin_alike(self):
+        rules = [
+            ((), ((("hand", "u", "a"),), (("hand", "v", "c"), ("make", "w", ())))),
+            ((), ((("hand", "u", "a"),), (("make", "v", ()), ("hand", "w", "c")))),
+        ]
+        row = EITHER_ROW[:4] + (("make", "r", ((0, "w"),)),)
+        for told in (rules, rules[::-1]):
+            callee = ((("a",), ("c",)), (("u",), ("v", "w")), tuple(told))
+            program = ((((),), (("r",),), (((1,), (row,)),)), callee)
+            for rule in (0, 1):
+                tree = (0, ((rule, ()),))
+                self.assertEqual(alive_at(program, tree, 1), (0,))
+                found = going_on(program, tree, 1, 0)
+                self.assertEqual(found[0], (0, ((told.index(rules[1]), ()),)))
+
     def test_visits_that_never_come_use_nothing(self):
         self.assertEqual([alive_at(UNVISITED, (0, ((0, ()),)), number) for number in range(4)], [(), (), (1,), ()])
 

@@ -338,6 +338,8 @@ class Closed(unittest.TestCase):
                 (seat, (made, ((ins, (("u",), ()), moves),) + behind)),
                 (seat, (made, ((ins, (("r", "r"), ()), moves),) + behind)),
                 (seat, (made, (((("r",), ()), outs, moves),) + behind)), (seat, None), None, seat, 0, "ab",
+                (None, (made, rows)), (0, (made, rows)), ("ab", (made, rows)), ((0,), (made, rows)),
+                ((0, 1, 0), (made, rows)), (("a", "b"), (made, rows)), (((0, 1),), (made, rows)),
         ):
             self.assertIs(is_closed(TWICE, A, CROSS, (wrong,) + found), False, wrong)
         self.assertTrue(is_closed(TWICE, A, CROSS, ((seat, (made, rows)),) + rest))
