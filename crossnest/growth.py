@@ -5,9 +5,9 @@ chosen yet is a *state*. The family that grows is told by an object with these m
 starts(key): the list of triples (RULE's number, state, places), places the set of those places
 whose callees do not matter; run(state): the list of pairs (key, state), to be joined with a
 result under this key, or (None, result); meet(state, result): the place of the callee that was
-waited for and the state behind it, or None if they do not meet; wants(result, results): whether
-a result is to be kept beside the others; worse(result, results): the list of those that are not
-to be kept beside it; callees_of(key, rule): the callees of this RULE.
+waited for and the state behind it, or None if they do not meet; wants(key, result, results):
+whether a result is to be kept beside the others; worse(result, results): the list of those that
+are not to be kept beside it; callees_of(key, rule): the callees of this RULE.
 """
 
 from crossnest.leasts import least_table
@@ -58,11 +58,15 @@ class Growth:
                 self.keep_least(results, (key, outcome), (rule, trees))
             else:
                 self.keep_least(states, (key, rule, wanted, outcome), trees)
-        for (key, outcome), tree in results.items():
+        for (key, outcome), tree in self.in_order(results):
             self.add_result(key, outcome, size, tree)
         for (key, rule, wanted, outcome), trees in states.items():
             self.add_state(key, rule, wanted, outcome, size, trees)
         return True
+
+    def in_order(self, results):
+        """List the results of one size, each with its TREE."""
+        return list(results.items())
 
     def keep_least(self, table, mark, tree):
         """Keep the least TREE under this mark, if no TREE with fewer nodes had it."""
@@ -74,7 +78,7 @@ class Growth:
     def add_result(self, key, result, size, tree):
         """Keep a result, and join it with all that waited for it."""
         self.settled[(key, result)] = True
-        if not self.kind.wants(result, self.found[key]):
+        if not self.kind.wants(key, result, self.found[key]):
             return
         dropped = self.kind.worse(result, self.found[key])
         for worse in dropped:
@@ -113,6 +117,15 @@ class Growth:
         """Let all grow that was asked for."""
         while self.step():
             pass
+
+
+class Sorted(Growth):
+    """The same family, each result with its least TREE coming ahead of those with greater ones:
+    so a result that is not wanted beside one that came ahead of it has no lesser TREE."""
+
+    def in_order(self, results):
+        """List the results of one size, each with its TREE, lesser TREES first."""
+        return sorted(list(results.items()), key=lambda item: item[1])
 
 
 class Rush(Growth):

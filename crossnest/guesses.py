@@ -122,6 +122,16 @@ def spread_ins(ports, visit, open_guesses, guesses):
     return found
 
 
+def whole_courses(plans, seat):
+    """List the Courses of a SEAT that go on to the end."""
+    found = []
+    for plan in plans.plans_of(seat):
+        goes = list(zip(plan.callees, plan.goes))
+        seats = [(callee, many) if many > 0 else None for callee, many in goes]
+        found.append(Course(plan, len(plan.acts), seats, None))
+    return found
+
+
 class Guessing:
     """How results come of the results of callees (for Growth)."""
 
@@ -139,12 +149,7 @@ class Guessing:
 
     def lay_courses(self, seat):
         """Make these Courses."""
-        found = []
-        for plan in self.plans.plans_of(seat):
-            goes = list(zip(plan.callees, plan.goes))
-            seats = [(callee, many) if many > 0 else None for callee, many in goes]
-            found.append(Course(plan, len(plan.acts), seats, None))
-        return found
+        return whole_courses(self.plans, seat)
 
     def first_extra(self):
         """Give what a state keeps besides, at its start."""
@@ -289,7 +294,7 @@ class Guessing:
         place = self.courses(seat)[number].plan.acts[state[1]][1]
         return place, state[:8] + (replaced(waiting, place, result),) + state[9:]
 
-    def wants(self, result, results):
+    def wants(self, key, result, results):
         """Tell whether a result is to be kept."""
         return True
 

@@ -60,7 +60,7 @@ class Passing:
         chosen = members[:place] + (member,) + members[place + 1:]
         return place, (seat, rule, at, streams, told, chosen)
 
-    def wants(self, code, codes):
+    def wants(self, key, code, codes):
         """Tell whether a member is to be kept."""
         if not self.whole:
             return not lies_within(code, codes)

@@ -1,9 +1,17 @@
 """A call of each function that the package has so far, with its arguments by name."""
 
-from crossnest import alive, choices, entries, openings, profiles, programs, runs, trees
-from tests.samples import (
-    A, BOTH, CHAIN, CROSS, CROSSED, D, DEEP, EMPTY_INS, LEAF, LENT, NODE, ONCE, TOP, TWICE,
+from crossnest import (
+    alive, choices, entries, lots, openings, patterns, profiles, programs, queues, rounds, runs,
+    stacks, trees,
 )
+from tests.samples import (
+    A, AGAIN, ASKED, BOTH, CHAIN, CROSS, CROSSED, D, DEEP, EMPTY_INS, FIVE, FIVE_NAMES, LEAF, LENT,
+    NODE, ONCE, TOP, TWICE,
+)
+
+CELL = (("make", 0), ("make", 1), ("use", 0))
+X_AND_Y = ((1, "x"), (1, "y"))
+SLOW = (0, ((1, ()),))
 
 DRAFT = (TOP, ((("d",),), (("u",),), (LEAF, ((1,), ((("go", 0),),)))))
 
@@ -81,4 +89,52 @@ CALLS = [
         "program": DEEP, "lot": D, "seat": (1, 1), "profile": ((1, "d"), 0, 0),
     }),
     (profiles.quick_pairs, {"program": TWICE, "lot": A, "home": "stack"}),
+    (patterns.pattern_of, {"home": "round", "many": 3}),
+    (patterns.shows, {
+        "program": TWICE, "lot": A, "tree": BOTH, "pattern": CROSS, "numbers": (0, 1, 2, 3),
+    }),
+    (patterns.shown_in, {"program": TWICE, "lot": A, "tree": BOTH, "pattern": CROSS}),
+    (patterns.takes, {"program": TWICE, "lot": A, "pattern": CROSS}),
+    (patterns.least_run, {"program": DEEP, "lot": D, "pattern": CELL}),
+    (patterns.pairs_shown, {"program": TWICE, "lot": ((1, "a"), (1, "u")), "pattern": CELL}),
+    (rounds.spans, {"program": DEEP, "tree": CHAIN, "lot": D}),
+    (rounds.spoilt, {"program": DEEP, "tree": CHAIN, "lot": D, "many": 1}),
+    (rounds.can_be_cell, {"program": TWICE, "lot": A}),
+    (rounds.can_be_round, {"program": TWICE, "lot": A, "many": 2}),
+    (rounds.least_round, {"program": TWICE, "lot": A}),
+    (rounds.round_clash, {"program": DEEP, "lot": D, "many": 3}),
+    (rounds.is_round_clash, {"program": DEEP, "lot": D, "many": 1, "thing": (CHAIN, 0, 3)}),
+    (stacks.stack_rows, {"program": DEEP, "tree": CHAIN, "lot": D}),
+    (stacks.missed_uses, {"program": TWICE, "tree": BOTH, "lot": A}),
+    (stacks.can_be_stack, {"program": TWICE, "lot": A}),
+    (stacks.crossing, {"program": TWICE, "lot": A}),
+    (stacks.is_crossing, {"program": TWICE, "lot": A, "thing": (BOTH, (0, 1, 2, 3))}),
+    (stacks.region_rows, {"program": ASKED, "tree": SLOW, "lot": X_AND_Y}),
+    (stacks.too_long, {"program": ASKED, "tree": SLOW, "lot": X_AND_Y}),
+    (stacks.can_be_region, {"program": ASKED, "lot": X_AND_Y}),
+    (stacks.overstay, {"program": ASKED, "lot": X_AND_Y}),
+    (stacks.is_overstay, {"program": ASKED, "lot": X_AND_Y, "thing": (SLOW, (0, 1, 3))}),
+    (queues.queue_rows, {"program": DEEP, "tree": CHAIN, "lot": D}),
+    (queues.missed_in_queue, {"program": DEEP, "tree": CHAIN, "lot": D}),
+    (queues.can_be_queue, {"program": AGAIN, "lot": ((0, "x"), (0, "y"))}),
+    (queues.nesting, {"program": AGAIN, "lot": ((0, "x"), (0, "y"))}),
+    (queues.is_nesting, {"program": DEEP, "lot": D, "thing": (CHAIN, (0, 1, 2, 3))}),
+    (queues.order_rows, {"program": DEEP, "tree": CHAIN, "lot": D}),
+    (queues.kept_up, {"program": DEEP, "tree": CHAIN, "lot": D}),
+    (queues.can_be_order, {"program": AGAIN, "lot": ((0, "x"), (0, "p"))}),
+    (queues.outlasting, {"program": DEEP, "lot": D}),
+    (queues.is_outlasting, {"program": DEEP, "lot": D, "thing": (CHAIN, (0, 1, 3))}),
+    (lots.share, {"program": FIVE, "home": "cell", "one": (0, "a"), "other": (0, "c")}),
+    (lots.table_of, {"program": FIVE, "home": "cell", "lot": FIVE_NAMES}),
+    (lots.fits, {"program": FIVE, "home": "queue", "lot": FIVE_NAMES}),
+    (lots.greatest_lots, {"program": FIVE, "home": "cell", "lot": FIVE_NAMES}),
+    (lots.fewest_lots, {"program": FIVE, "home": "cell", "lot": FIVE_NAMES}),
+    (lots.is_parting, {
+        "program": FIVE, "home": "cell", "lot": FIVE_NAMES,
+        "thing": (((0, "a"),), ((0, "b"), (0, "d")), ((0, "c"), (0, "e"))),
+    }),
+    (lots.none_share, {"program": FIVE, "home": "cell", "lot": FIVE_NAMES}),
+    (lots.cheapest_lots, {
+        "program": FIVE, "home": "cell", "lot": FIVE_NAMES, "sizes": (8, 1, 8, 1, 1),
+    }),
 ]

@@ -203,3 +203,36 @@ def made_program(seed, procedures=3, rules=2, ins=2, outs=2, visits=2, callees=2
             made.append(made_rule(chance, ports, number, 0, hands))
         program.append((ports[number][0], ports[number][1], tuple(made)))
     return tuple(program)
+
+
+def plain_numbers(run, lot, pattern):
+    """All numbers, ascending, at which a RUN takes a PATTERN, one by one."""
+    events = run.events
+
+    def fits(member, at, values):
+        deed, guess = member
+        if deed == "use":
+            return values[guess] in events[at]["uses"]
+        return events[at]["pair"] is not None and events[at]["pair"] in lot
+
+    def search(number, first, values, told):
+        if number == len(pattern):
+            yield told
+            return
+        for at in range(first, len(events)):
+            if fits(pattern[number], at, values):
+                more = dict(values)
+                if pattern[number][0] == "make" and pattern[number][1] is not None:
+                    more[pattern[number][1]] = at
+                yield from search(number + 1, at + 1, more, told + (at,))
+
+    yield from search(0, 0, {}, ())
+
+
+def plain_spans(run, lot):
+    """For each value of the lot: (made, use, makes between) of each of its uses."""
+    made = [at for at, event in enumerate(run.events) if event["pair"] in lot]
+    return [
+        (value, use, sum(value < other < use for other in made))
+        for value in made for use in run.users(value)
+    ]

@@ -24,6 +24,28 @@ LENT = (
 # NODE without LEAF: no TREE ever ends.
 ENDLESS = (TOP, ((("d",),), (("u",),), (NODE,)))
 
+# Which of x and y the callee uses is known once it is entered.
+ASKED = (
+    (((),), (("r",),), (((1,), ((
+        ("make", (0, "x"), ()), ("make", (0, "y"), ()), ("go", 0), ("make", "r", ((0, "z"),)),
+    ),)),)),
+    ((("x", "y"),), (("z",),), (
+        ((), ((("make", "z", ("x",)),),)),
+        ((), ((("make", "w", ()), ("make", "z", ("y",))),)),
+    )),
+)
+# x is used, y is used, x is used again; p is never used.
+AGAIN = ((((),), (("r",),), (((), ((
+    ("make", "x", ()), ("make", "y", ()), ("make", "p", ("x",)), ("make", "q", ("y",)),
+    ("make", "r", ("x",)),
+),)),)),)
+# Five RULES, each with two names at once.
+FIVE = ((((),), (("r",),), tuple(
+    ((), ((("make", one, ()), ("make", two, ()), ("make", "r", (one, two))),))
+    for one, two in ("ab", "bc", "cd", "de", "ea")
+)),)
+FIVE_NAMES = tuple((0, name) for name in "abcde")
+
 CHAIN = (0, ((1, ((0, ()),)),))
 BOTH = (0, ((0, ()), (0, ())))
 D, A = ((1, "d"),), ((1, "a"),)

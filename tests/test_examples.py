@@ -2,7 +2,10 @@
 
 import unittest
 
-from crossnest import alive, choices, entries, errors, openings, profiles, programs, runs, trees
+from crossnest import (
+    alive, choices, entries, errors, lots, openings, patterns, profiles, programs, queues,
+    rounds, runs, stacks, trees,
+)
 
 PROGRAMS = r'''
 >>> once = ((((),), (("r",),), (((), ((("make", "x", ()), ("make", "r", ("x",))),)),)),)
@@ -108,7 +111,85 @@ PROFILES = r'''
 (True, False, True)
 '''
 
-MODULES = (errors, programs, trees, runs, alive, entries, choices, openings, profiles)
+PATTERNS = r'''
+>>> pattern_of("queue", 1), pattern_of("round", 2)
+((('make', 0), ('make', 1), ('use', 1), ('use', 0)), (('make', 0), ('make', None), ('make', None), ('use', 0)))
+>>> least_run(deep, ((1, "d"),), pattern_of("cell", 1)), takes(deep, ((1, "d"),), pattern_of("stack", 1))
+(((0, ((1, ((0, ()),)),)), (0, 1, 3)), False)
+>>> least_run(deep, ((1, "d"),), pattern_of("round", 2))
+((0, ((1, ((1, ((0, ()),)),)),)), (0, 1, 2, 5))
+>>> both = (0, ((0, ()), (0, ())))
+>>> shown_in(twice, ((1, "a"),), both, pattern_of("stack", 1)), shows(twice, ((1, "a"),), both, pattern_of("queue", 1), (0, 1, 3, 2))
+((0, 1, 2, 3), False)
+>>> pairs_shown(twice, ((1, "a"), (1, "u")), pattern_of("cell", 1)), takes(twice, ((1, "a"),), pattern_of("round", 2))
+((((1, 'a'), (1, 'a')), ((1, 'a'), (1, 'u')), ((1, 'u'), (1, 'u'))), False)
+'''
+
+ROUNDS = r'''
+>>> spans(once, (0, ()), ((0, "r"), (0, "x"))), can_be_cell(once, ((0, "r"), (0, "x")))
+(((0, 1, 0), (1, 2, 0)), True)
+>>> inner, spent = (0, ((1, ((0, ()),)),)), ((1, "d"),)
+>>> spans(deep, inner, spent), spoilt(deep, inner, spent, 1), spoilt(deep, inner, spent, 2), least_round(deep, spent)
+(((0, 3, 1), (1, 2, 0)), ((3, 0, 1),), (), None)
+>>> is_round_clash(deep, spent, 1, (inner, 0, 3)), can_be_cell(deep, ((0, "r"), (1, "u"))), round_clash(once, ((0, "x"),), 1)
+(True, True, None)
+>>> kept = ((1, "a"),)
+>>> can_be_cell(twice, kept), least_round(twice, kept), can_be_round(twice, kept, 2)
+(False, 2, True)
+'''
+
+STACKS = r'''
+>>> lot, chain, pair = ((1, "d"),), (0, ((1, ((0, ()),)),)), (0, ((0, ()), (0, ())))
+>>> stack_rows(deep, chain, lot), region_rows(deep, chain, lot)
+([(), (0,), (0, 1), (0, 1), (0,), (0,), (0,)], [(), (0,), (0, 1), (0,), (), (), ()])
+>>> can_be_stack(deep, lot), can_be_region(deep, lot), crossing(deep, lot)
+(True, True, None)
+>>> crossing(twice, ((1, "a"),)) == (pair, (0, 1, 2, 3)), missed_uses(twice, pair, ((1, "a"),)), is_overstay(twice, ((1, "a"),), (pair, (0, 1, 3)))
+(True, ((3, 1),), True)
+>>> asked = ((((),), (("r",),), (((1,), ((("make", (0, "x"), ()), ("make", (0, "y"), ()), ("go", 0), ("make", "r", ((0, "z"),))),)),)), ((("x", "y"),), (("z",),), (((), ((("make", "z", ("x",)),),)), ((), ((("make", "w", ()), ("make", "z", ("y",))),)))))
+>>> names, slow = ((1, "x"), (1, "y")), (0, ((1, ()),))
+>>> can_be_stack(asked, names), can_be_region(asked, names), overstay(asked, names) == (slow, (0, 1, 3)), too_long(asked, slow, names)
+(True, False, True, ((3, 0),))
+>>> steps = (("make", "x", ()), ("make", "y", ()), ("make", "p", ("x",)), ("make", "q", ("y",)), ("make", "r", ("x",)))
+>>> again, both = ((((),), (("r",),), (((), (steps,)),)),), ((0, "x"), (0, "y"))
+>>> can_be_stack(again, both), can_be_region(again, both), is_crossing(again, both, ((0, ()), (0, 1, 2, 3)))
+(False, True, True)
+'''
+
+QUEUES = r'''
+>>> can_be_queue(twice, ((1, "a"),)), can_be_order(twice, ((1, "a"),)), queue_rows(twice, pair, ((1, "a"),))
+(True, True, [(), (0,), (0, 1), (0, 1), (1,), (1,), (1,)])
+>>> nesting(deep, lot) == (chain, (0, 1, 2, 3)), missed_in_queue(deep, chain, lot), order_rows(deep, chain, lot), kept_up(deep, chain, lot)
+(True, ((3, 0),), [(), (0,), (0, 1), (0, 1), (), (), ()], ((3, 1),))
+>>> can_be_order(deep, lot), is_outlasting(deep, lot, (chain, (0, 1, 3))), is_outlasting(deep, lot, (chain, (0, 1, 2)))
+(False, True, False)
+>>> can_be_queue(asked, names), can_be_order(asked, names), kept_up(asked, (0, ((0, ()),)), names)
+(True, True, ())
+>>> can_be_queue(again, both), can_be_order(again, both), order_rows(again, (0, ()), both)[4], nesting(again, both)[1]
+(False, False, (0, 1), (0, 1, 3, 4))
+>>> can_be_order(again, ((0, "p"),)), can_be_order(again, ((0, "x"), (0, "p"))), can_be_queue(again, ((0, "x"), (0, "p")))
+(True, False, True)
+'''
+
+LOTS = r'''
+>>> five = ((((),), (("r",),), tuple([((), ((("make", one, ()), ("make", two, ()), ("make", "r", (one, two))),)) for one, two in ("ab", "bc", "cd", "de", "ea")])),)
+>>> names = tuple([(0, name) for name in "abcde"])
+>>> share(five, "cell", (0, "a"), (0, "b")), share(five, "cell", (0, "a"), (0, "c")), len(table_of(five, "cell", names)), none_share(five, "cell", names)
+(False, True, 10, ((0, 'a'), (0, 'b')))
+>>> fewest_lots(five, "cell", names), greatest_lots(five, "cell", names)[0], fewest_lots(five, "stack", names) == (names,)
+((((0, 'a'),), ((0, 'b'), (0, 'd')), ((0, 'c'), (0, 'e'))), ((0, 'a'), (0, 'c')), True)
+>>> cheapest_lots(five, "cell", names, (8, 1, 8, 1, 1)), is_parting(five, "cell", names, tuple([(name,) for name in names]))
+((((0, 'a'), (0, 'c')), ((0, 'b'), (0, 'd')), ((0, 'e'),)), True)
+>>> fewest_lots(deep, "cell", ((1, "d"), (1, "u"))), fits(deep, "stack", ((0, "r"), (1, "d"), (1, "u"))), fits(twice, "stack", ((1, "a"), (1, "u")))
+(None, True, False)
+>>> share(five, "shelf", (0, "a"), (0, "b"))
+raises Unfit()
+'''
+
+MODULES = (
+    errors, programs, trees, runs, alive, entries, choices, openings, profiles, patterns,
+    rounds, stacks, queues, lots,
+)
 
 
 def steps_in(text):
@@ -150,7 +231,10 @@ class Examples(unittest.TestCase):
 
     # One test: names in an example are those of the nearest one ahead that sets them.
     def test_all(self):
-        for text in (PROGRAMS, TREES, RUNS, ALIVE, ENTRIES, PROFILES):
+        for text in (
+                PROGRAMS, TREES, RUNS, ALIVE, ENTRIES, PROFILES, PATTERNS, ROUNDS, STACKS,
+                QUEUES, LOTS,
+        ):
             self.check(text)
 
 

@@ -28,6 +28,7 @@ WORDS = re.compile(
 )
 NEVER = {"register", "mro", "elements", "open", "input", "law", "version_info", "add_note"}
 ONCE_ITERATED = {"zip", "enumerate", "reversed"}
+KEYWORDS = {"sorted": {"key"}, "min": {"key"}, "max": {"key"}}
 STATEMENTS = (
     ast.Assign, ast.AugAssign, ast.If, ast.While, ast.For, ast.Return, ast.Break, ast.Continue,
     ast.Pass, ast.Raise, ast.Assert, ast.Delete, ast.Nonlocal, ast.Try, ast.Expr, ast.FunctionDef,
@@ -62,6 +63,8 @@ def bound_in(function):
             found.append(node.id)
         if isinstance(node, ast.FunctionDef) and node is not function:
             found.append(node.name)
+        if isinstance(node, ast.Lambda):
+            found += [arg.arg for arg in node.args.args]
     return set(found)
 
 
@@ -218,6 +221,8 @@ class Form(unittest.TestCase):
                             self.assertIn(other.value, (None, True, False), where)
                 if isinstance(node, ast.Call) and isinstance(node.func, ast.Name):
                     self.look_at_call(node, above, where)
+                if isinstance(node, ast.Set):
+                    self.assertFalse([part for part in node.elts if isinstance(part, ast.Starred)], where)
                 if isinstance(node, (ast.SetComp, ast.Set)):
                     self.assertIn(called(above[node]), ("sorted", "len"), where)
 
@@ -230,8 +235,9 @@ class Form(unittest.TestCase):
         if word == "set":
             kept = isinstance(outer, ast.Assign) and isinstance(outer.targets[0], ast.Name)
             self.assertTrue(kept or called(outer) in ("sorted", "len"), where)
-        if word in BUILTINS and node.keywords:
-            self.fail(where)
+        if word in BUILTINS:
+            told = {keyword.arg for keyword in node.keywords}
+            self.assertLessEqual(told, KEYWORDS.get(word, set()), where)
 
     def test_words(self):
         for name in files():
@@ -243,11 +249,14 @@ class Form(unittest.TestCase):
             self.assertIsNone(WORDS.search(ast.unparse(tree)), name)
 
     def test_functions_hold_docstrings(self):
-        self.places([
-            (name, node.name) for name in files() for node in ast.walk(tree_of(name))
-            if isinstance(node, (ast.FunctionDef, ast.ClassDef)) and ast.get_docstring(node) is None
-            and node.name not in ("__init__", "improve", "makes", "reads")
-        ])
+        for name in files():
+            tree = tree_of(name)
+            above = parents_in(tree)
+            self.places([
+                (name, node.name) for node in ast.walk(tree)
+                if isinstance(node, (ast.FunctionDef, ast.ClassDef)) and ast.get_docstring(node) is None
+                and node.name != "__init__" and not isinstance(above[node], ast.FunctionDef)
+            ])
 
 
 def called(node):

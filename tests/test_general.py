@@ -21,6 +21,13 @@ LISTED = {
     "choices": "entry_of is_closed",
     "openings": "least_moment",
     "profiles": "is_quick profiles_of profiles profile_tree quick_pairs",
+    "patterns": "pattern_of shows shown_in takes least_run pairs_shown",
+    "rounds": "spans spoilt can_be_cell can_be_round least_round round_clash is_round_clash",
+    "stacks": "stack_rows missed_uses can_be_stack crossing is_crossing region_rows too_long"
+              " can_be_region overstay is_overstay",
+    "queues": "queue_rows missed_in_queue can_be_queue nesting is_nesting order_rows kept_up"
+              " can_be_order outlasting is_outlasting",
+    "lots": "share table_of fits greatest_lots fewest_lots is_parting none_share cheapest_lots",
 }
 # The classes, what each is under, and what its constructor takes.
 ERRORS = {
@@ -35,7 +42,10 @@ ERRORS = {
     "TooMany": (ValueError, []),
     "Unfit": (ValueError, []),
 }
-LISTS = ("trees_of", "events", "moments", "passings")
+LISTS = (
+    "trees_of", "events", "moments", "passings", "stack_rows", "region_rows", "queue_rows",
+    "order_rows",
+)
 
 
 def as_lists(value, depth=100):
