@@ -139,9 +139,9 @@ def ends_ahead(program, tree, lot):
     ])
 
 
-def most_alive_in(program, tree, lot):
-    """Give the greatest number of values of this LOT alive at a MOMENT, and the least such one."""
-    lasts = chances_of(frozen(program), frozen(tree)).lasts_in(frozen(lot))
+def most_at_once(lasts):
+    """Give the greatest number of values alive at a MOMENT, and the least such one, out of the
+    pairs (value, its last MOMENT)."""
     changes = {}
     for value, last in lasts:
         if last is not None:
@@ -153,3 +153,8 @@ def most_alive_in(program, tree, lot):
         if many > best[0]:
             best = (many, moment)
     return best
+
+
+def most_alive_in(program, tree, lot):
+    """Give the greatest number of values of this LOT alive at a MOMENT, and the least such one."""
+    return most_at_once(chances_of(frozen(program), frozen(tree)).lasts_in(frozen(lot)))

@@ -13,6 +13,15 @@ def size_of(tree):
     return many
 
 
+def levels_of(tree):
+    """Tell how many levels a TREE has."""
+    many, level = 0, [tree]
+    while level:
+        many += 1
+        level = [part for above in level for part in above[1]]
+    return many
+
+
 def part_at(tree, path):
     """Give the TREE that stands at this PATH; raise NoPath if none does."""
     for place in path:
@@ -108,3 +117,19 @@ def least_table(program):
         return best
 
     return settled(program, improve)
+
+
+def shallow_table(program):
+    """Give, for each PROCEDURE, a pair (depth, TREE): a TREE with as few levels as can be."""
+    table, depth = [None for _ in program], 0
+    while None in table:
+        depth += 1
+        found = {}
+        for procedure, (_, _, rules) in enumerate(program):
+            for rule, (callees, _) in enumerate(rules):
+                parts = [table[callee] for callee in callees]
+                if table[procedure] is None and procedure not in found and None not in parts:
+                    found[procedure] = (depth, (rule, tuple([part[1] for part in parts])))
+        for procedure, told in found.items():
+            table[procedure] = told
+    return table

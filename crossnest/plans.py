@@ -59,6 +59,8 @@ class Plan:
         self.lay_words(sorted(set(local_names(program[procedure], self.rule))))
         # The acts, and how often each place was gone to ahead of each of them.
         self.acts, self.counts = [], [tuple([0 for _ in self.callees])]
+        # Where the acts of a visit begin, and those behind a go by its place and its visit.
+        self.begins, self.behind = [], {}
         for visit in range(many):
             self.lay_row(visit)
         self.alive = self.lay_alive()
@@ -90,6 +92,10 @@ class Plan:
             gone[act[1]] += 1
         self.acts.append(act)
         self.counts.append(tuple(gone))
+        if act[0] == ENTER:
+            self.begins.append(len(self.acts))
+        elif act[0] == GO:
+            self.behind[act[1:]] = len(self.acts)
 
     def lay_row(self, visit):
         """Put the acts of the row of this visit behind the others."""

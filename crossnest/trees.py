@@ -4,8 +4,8 @@ from crossnest.checks import check_procedure, check_rule
 from crossnest.errors import CanNot, TooMany, Unfit
 from crossnest.forms import frozen
 from crossnest.leasts import (
-    fits_procedure, joined, least_of_rule, least_table, lesser, part_at, procedure_at, settled,
-    size_of, with_part,
+    fits_procedure, joined, least_of_rule, least_table, lesser, levels_of, part_at, procedure_at,
+    settled, size_of, with_part,
 )
 
 MOST_TREES = 2000
@@ -25,11 +25,7 @@ def nodes(tree):
 
 def depth(tree):
     """Tell how many levels the TREE has."""
-    many, level = 0, [frozen(tree)]
-    while level:
-        many += 1
-        level = [part for above in level for part in above[1]]
-    return many
+    return levels_of(frozen(tree))
 
 
 def paths(tree):
