@@ -111,7 +111,7 @@ def grant(program, wishes):
     """Give a spot that grants the wishes, None if there is none."""
     program, wishes = frozen(program), frozen(wishes)
     check_pairs(program, [(procedure, name) for procedure, name, _ in wishes])
-    tree = Grants(Scenes(program), wishes).tree()
+    tree = Grants(Scenes(program), wishes).granting_tree()
     return None if tree is None else (tree, moments_granting(program, tree, wishes)[0])
 
 
@@ -198,7 +198,7 @@ def pump(program, lot):
         step = growing_step(edges, inside, sums)
         if step is not None:
             collar = collar_by(edges, step, inside)
-            way = way_to(edges, scenes.roots, step[0], range(len(edges)))[1]
+            way = way_to(edges, scenes.roots, step[0], scenes.numbered())[1]
             tree = wrapped(way + collar, trees[step[0]], trees)
             return tree, path_of(way), path_of(collar)
     return None

@@ -35,12 +35,12 @@ def shortest_way(links, starts, goal):
 
 
 def way_to(edges, starts, goal, inside):
-    """Give the shortest way, as shortest_way does, through nodes that are inside (see steps_in)."""
+    """Give the shortest way, as shortest_way does, through nodes that are inside."""
     return shortest_way(links_of(steps_in(edges, inside)), starts, goal)
 
 
 def steps_in(edges, inside):
-    """List the steps (node, edge, place) between nodes that are inside: a dict or a range."""
+    """List the steps (node, edge, place) between nodes that are inside: the keys of a dict."""
     return [
         (node, edge, place) for node in inside for edge in edges[node]
         for place, other in edge[2] if other in inside

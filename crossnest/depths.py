@@ -32,7 +32,7 @@ def height_spot(program, lot, depth):
     """Give a spot with so many alive, None if there is no such TREE."""
     program, lot = frozen(program), frozen(lot)
     check_pairs(program, lot)
-    tree = stairs_to(program, lot, depth).tree()
+    tree = stairs_to(program, lot, depth).best_tree()
     return None if tree is None else fullest_spot(program, tree, lot)
 
 
@@ -146,5 +146,5 @@ def fork(program, lot):
     bough = wrapped(ways[0], trees[node], trees)
     twig = wrapped(ways[1][1:], trees[node], trees)
     bough = with_part(bough, path_of(ways[1][:1]), twig)
-    way = way_to(growing.edges, scenes.roots, node, range(len(growing.edges)))[1]
+    way = way_to(growing.edges, scenes.roots, node, scenes.numbered())[1]
     return wrapped(way, bough, trees), path_of(way), path_of(ways[0]), path_of(ways[1])

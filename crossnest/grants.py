@@ -80,7 +80,7 @@ class Grants:
             ])
         return found
 
-    def tree(self):
+    def granting_tree(self):
         """Give a TREE that has a spot which grants the wishes, None if there is none."""
         if len(self.caps) == 0:
             return self.scenes.shallow[0][1]

@@ -3,6 +3,7 @@
 from crossnest.checks import check_name, check_ports, check_procedure
 from crossnest.errors import Unfit
 from crossnest.forms import frozen, is_number_below, is_tuple_of
+from crossnest.groups import best_parting, groups_of
 from crossnest.hunts import is_taken, pairs_taking
 from crossnest.patterns import pattern_of
 from crossnest.queues import can_be_order, can_be_queue
@@ -105,18 +106,6 @@ def fits(program, home, lot):
     return does_fit(program, home, lot)
 
 
-def groups_of(many, may_join):
-    """List all ascending tuples of numbers below many that grow by numbers that may join."""
-    found, waiting = [], [()]
-    while waiting:
-        group = waiting.pop()
-        found.append(group)
-        for at in range(group[-1] + 1 if group else 0, many):
-            if may_join(group, at):
-                waiting.append(group + (at,))
-    return sorted(found)
-
-
 def greatest_lots(program, home, lot):
     """Give the LOTS of pairs of the LOT that fit and lie within no other such one."""
     table = table_for(program, home, lot)
@@ -133,30 +122,12 @@ def greatest_lots(program, home, lot):
     return tuple(sorted(found))
 
 
-def partings_of(table):
-    """List all PARTINGS of the LOT of a Table, each with its groups ascending."""
-    if not all([table.is_good(at) for at in range(len(table.lot))]):
-        return []
-    found = [()]
-    for at in range(len(table.lot)):
-        more = []
-        for groups in found:
-            for number, group in enumerate(groups):
-                if table.goes_with(group, at):
-                    more.append(groups[:number] + (group + (at,),) + groups[number + 1:])
-            more.append(groups + ((at,),))
-        found = more
-    return found
-
-
 def least_parting(table, cost):
     """Give the PARTING with the least cost, the fewest LOTS, and the least; None without any."""
-    best = None
-    for groups in partings_of(table):
-        told = (cost(groups), len(groups), groups)
-        if best is None or told < best:
-            best = told
-    return None if best is None else tuple([table.told(group) for group in best[2]])
+    if not all([table.is_good(at) for at in range(len(table.lot))]):
+        return None
+    best = best_parting(len(table.lot), table.goes_with, cost)
+    return tuple([table.told(group) for group in best])
 
 
 def fewest_lots(program, home, lot):

@@ -78,8 +78,8 @@ class Scenes:
             self.strange[seat] = settled_members(ways, width, seat[1] == 1)
         # By status: its Courses, and its manners, each with the pairs (Course, parts) that
         # have it, parts being the manners of the callees.
-        self.courses, self.made, self.tried = {}, {}, {}
-        self.starts = self.starting_statuses()
+        self.laid, self.made, self.tried = {}, {}, {}
+        self.rooted = self.starting_statuses()
         self.find_statuses()
         while self.find_manners():
             pass
@@ -98,21 +98,21 @@ class Scenes:
 
     def find_statuses(self):
         """Find all statuses, with their Courses."""
-        waiting = list(self.starts)
+        waiting = list(self.rooted)
         while waiting:
             status = waiting.pop()
-            if status in self.courses:
+            if status in self.laid:
                 continue
-            self.courses[status], self.made[status] = [], {}
+            self.laid[status], self.made[status] = [], {}
             for plan in self.plans.plans_of(status[:2]):
-                self.courses[status].extend(courses_of(plan, status[2], status[3]))
-            for course in self.courses[status]:
+                self.laid[status].extend(courses_of(plan, status[2], status[3]))
+            for course in self.laid[status]:
                 waiting.extend([seat for seat in course.seats if seat is not None])
 
     def find_manners(self):
         """Find manners that come of those found so far; tell whether there were any."""
         found = False
-        for status, courses in self.courses.items():
+        for status, courses in self.laid.items():
             for course in courses:
                 choices = [
                     [None] if seat is None else list(self.made[seat]) for seat in course.seats
@@ -126,7 +126,7 @@ class Scenes:
                         found = True
         return found
 
-    def families(self, course, parts):
+    def manners_of(self, course, parts):
         """List the manners of the callees, those that are not known among them."""
         plan, found = course.plan, []
         for place, part in enumerate(parts):
@@ -139,7 +139,7 @@ class Scenes:
         """Give the manner of a node with this Course and these manners of its callees."""
         plan, members = course.plan, []
         outs = sum(plan.own.out_masks)
-        for row in rows_by(self.families(course, parts)):
+        for row in rows_by(self.manners_of(course, parts)):
             member = [0 for _ in plan.own.names]
             for visit in range(status[1]):
                 for port in plan.own.ins_by_visit[visit]:
@@ -153,7 +153,7 @@ class Scenes:
         """Give the setting of the callee at this place."""
         plan, members = course.plan, []
         ports, offset = plan.ports[place], plan.offsets[place]
-        families = self.families(course, parts)
+        families = self.manners_of(course, parts)
         families[place] = [None]
         ins = sum(ports.in_masks)
         for row in rows_by(families):
@@ -174,7 +174,7 @@ class Scenes:
         """List the pairs of the values made by the node itself that are alive."""
         plan, found = course.plan, []
         rows = [
-            (row, outer) for row in rows_by(self.families(course, parts)) for outer in setting
+            (row, outer) for row in rows_by(self.manners_of(course, parts)) for outer in setting
         ]
         for at, act in enumerate(plan.acts[:course.stop]):
             if act[0] == MAKE:
@@ -197,7 +197,7 @@ class Scenes:
     def find_scenes(self):
         """Find all scenes of RUNS, with their edges; list those of the root."""
         ports, roots = self.plans.ports[0], []
-        for status in self.starts:
+        for status in self.rooted:
             asked = sum(ports.out_masks[status[2]:])
             member = tuple([1 if asked >> port & 1 else 0 for port in range(len(ports.names))])
             for manner in self.made[status]:
@@ -230,3 +230,7 @@ class Scenes:
              for lives, base, sources in told]
             for told in self.edges
         ]
+
+    def numbered(self):
+        """Give a dict with all nodes as keys."""
+        return {node: True for node in range(len(self.edges))}

@@ -39,7 +39,7 @@ class Stairs:
         node = self.best_root()
         return 0 if node is None else self.levels[-1][node][0]
 
-    def tree(self):
+    def best_tree(self):
         """Give a TREE with this height, None if there is none."""
         if self.scenes.shallow[0][0] >= len(self.levels):
             return None

@@ -80,9 +80,10 @@ class Trip:
     def reach(self, phase):
         """Come to a phase; the values that are not followed any more are forgotten."""
         self.phase = phase
-        for guess, words in enumerate(self.held):
-            if words and not self.search.follows(guess, phase):
-                self.held = replaced(self.held, guess, 0)
+        self.held = tuple([
+            words if self.search.follows(guess, phase) else 0
+            for guess, words in enumerate(self.held)
+        ])
 
     def set_held(self, guess, words):
         """Let the value of a guess stand at these WORDS, too, if it is followed."""
@@ -104,7 +105,7 @@ class Trip:
 
     def hand(self, act):
         """Do a hand."""
-        for guess, words in enumerate(self.held):
+        for guess, words in enumerate(list(self.held)):
             if words & act[2]:
                 self.set_held(guess, act[1])
 
@@ -136,10 +137,23 @@ class Trip:
         return True
 
     def is_late(self):
-        """Tell whether a callee's next visit had to begin in an earlier phase."""
+        """Tell whether a callee's next visit had to begin in an earlier phase, or a value that is
+        still to be used stands nowhere any more."""
+        is_settled = True
         for rows in self.waiting:
-            if rows and rows[0][0] < self.phase:
-                return True
+            if rows:
+                is_settled = False
+                if rows[0][0] < self.phase:
+                    return True
+        return is_settled and self.is_lost()
+
+    def is_lost(self):
+        """Tell whether a value that was made inside, and is followed, can not be read any more."""
+        alive = self.plan.alive[self.at]
+        for guess, words in enumerate(self.held):
+            if self.left[guess] == INSIDE and words & alive == 0:
+                if self.search.follows(guess, self.phase):
+                    return True
         return False
 
 
@@ -220,7 +234,8 @@ class Tracing:
                     branch.at += 1
                 return [branch for branch in more if not branch.is_late()]
             trip.at += 1
-        found.append((None, self.result_of(trip), trip.gain))
+        if not trip.is_lost():
+            found.append((None, self.result_of(trip), trip.gain))
         return []
 
     def wanted(self, trip, act):

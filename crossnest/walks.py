@@ -19,6 +19,8 @@ class Walk:
         # How many EVENTS are ahead of the first go to each node: None if there is no go.
         self.entered = [None for _ in self.paths]
         self.entered[0] = ROOT_KNOWN
+        # By node, visit and number of a STEP: how many EVENTS are ahead of it.
+        self.stood = {}
         # One row for each EVENT: its node, visit and number in the row, the visit of the
         # root in which it comes, its STEP, the slots that it reads, the slot that it sets.
         self.nodes, self.visits, self.numbers, self.turns = [], [], [], []
@@ -65,6 +67,7 @@ class Walk:
         while frames:
             node, turn, number = frames[-1]
             row = self.rule_of(node)[1][turn]
+            self.stood[(node, turn, number)] = len(self.steps)
             if number == len(row):
                 frames.pop()
                 continue

@@ -1,12 +1,12 @@
 """A call of each function that the package has so far, with its arguments by name."""
 
 from crossnest import (
-    alive, choices, entries, lots, openings, patterns, profiles, programs, queues, rounds, runs,
-    stacks, trees,
+    alive, alives, choices, depths, entries, frames, inplace, lots, openings, patterns, profiles,
+    programs, queues, rounds, runs, stacks, trees,
 )
 from tests.samples import (
-    A, AGAIN, ASKED, BOTH, CHAIN, CROSS, CROSSED, D, DEEP, EMPTY_INS, FIVE, FIVE_NAMES, LEAF, LENT,
-    NODE, ONCE, TOP, TWICE,
+    A, AGAIN, ASKED, BOTH, BUSH, CHAIN, CROSS, CROSSED, D, DEEP, EMPTY_INS, FIVE, FIVE_NAMES, LEAF,
+    LENT, MORE, NODE, ONCE, RELAY, TOP, TWICE, TWO, YOUNG,
 )
 
 CELL = (("make", 0), ("make", 1), ("use", 0))
@@ -136,5 +136,57 @@ CALLS = [
     (lots.none_share, {"program": FIVE, "home": "cell", "lot": FIVE_NAMES}),
     (lots.cheapest_lots, {
         "program": FIVE, "home": "cell", "lot": FIVE_NAMES, "sizes": (8, 1, 8, 1, 1),
+    }),
+    (alives.counts, {"program": DEEP, "tree": CHAIN, "lot": D}),
+    (alives.most_alive, {"program": TWICE, "lot": A}),
+    (alives.alive_spot, {"program": DEEP, "lot": D, "many": 3}),
+    (alives.is_alive_spot, {"program": DEEP, "lot": D, "many": 2, "thing": (CHAIN, 2)}),
+    (alives.grant, {"program": DEEP, "wishes": ((1, "d", 2), (1, "u", 1))}),
+    (alives.is_grant, {
+        "program": TWICE, "wishes": ((1, "a", 1), (1, "u", 1)), "thing": (BOTH, 3),
+    }),
+    (alives.homes_given, {"program": TWICE, "tree": BOTH, "lot": A}),
+    (alives.is_homes, {"program": TWICE, "tree": BOTH, "lot": A, "thing": ((0, 7), (1, 0))}),
+    (alives.most_left, {"program": TWICE, "lot": A, "procedure": 1, "visits": 1}),
+    (alives.pump, {"program": DEEP, "lot": D}),
+    (depths.height, {"program": BUSH, "lot": A, "depth": 4}),
+    (depths.height_spot, {"program": BUSH, "lot": A, "depth": 3}),
+    (depths.is_height_spot, {"program": DEEP, "lot": D, "depth": 3, "thing": (CHAIN, 2)}),
+    (depths.power, {"program": DEEP, "lot": D}),
+    (depths.full_depth, {"program": TWICE, "lot": A}),
+    (depths.slope, {"program": DEEP, "lot": D}),
+    (depths.steep, {"program": DEEP, "lot": D}),
+    (depths.forked, {
+        "program": BUSH, "tree": YOUNG, "path": (0,), "below": (0,), "other": (1,), "many": 2,
+    }),
+    (depths.fork, {"program": BUSH, "lot": A}),
+    (frames.kept_until, {"program": LENT, "procedure": 1, "rule": 0, "name": "x"}),
+    (frames.kept_at, {"program": DEEP, "procedure": 1, "rule": 1, "visit": 0, "step": 2}),
+    (frames.kept_run, {"program": LENT, "procedure": 1, "rule": 0, "name": "x"}),
+    (frames.is_kept_run, {
+        "program": LENT, "procedure": 1, "rule": 0, "name": "x",
+        "thing": ((0, ((0, ()),)), (0,), 0, 2),
+    }),
+    (frames.drop_at, {"program": RELAY, "procedure": 1, "rule": 1}),
+    (frames.tails, {"program": RELAY}),
+    (frames.one_frame, {"program": RELAY, "procedure": 1}),
+    (frames.frame_clash, {"program": TWO, "procedure": 0, "name": "x", "other": "y"}),
+    (frames.is_frame_clash, {
+        "program": TWO, "procedure": 0, "name": "x", "other": "y", "thing": ((0, ()), (), 0, 1, 2),
+    }),
+    (frames.frame_cells, {"program": TWO, "procedure": 0}),
+    (inplace.spots, {"program": DEEP}),
+    (inplace.over_spots, {"program": MORE}),
+    (inplace.may_write_over, {"program": MORE, "spot": (0, 0, 0, 2, 1)}),
+    (inplace.over_clash, {"program": MORE, "spot": (0, 0, 0, 1, 0)}),
+    (inplace.is_over_clash, {
+        "program": MORE, "spot": (0, 0, 0, 1, 0), "thing": ((0, ()), 1, 2),
+    }),
+    (inplace.best_overs, {"program": DEEP}),
+    (inplace.homes_in_place, {
+        "program": DEEP, "tree": CHAIN, "overs": ((0, 0, 0, 2, 0), (1, 0, 0, 0, 0)),
+    }),
+    (inplace.spoilt_in_place, {
+        "program": MORE, "tree": (0, ()), "overs": ((0, 0, 0, 1, 0),),
     }),
 ]

@@ -41,7 +41,8 @@ class PlainRun:
         self.program, self.events = program, []
         self.at = {}
         self.gone, self.first = {}, {(): -1}
-        self.turn = 0
+        # How many EVENTS are ahead of each STEP of each node, and of the end of its rows.
+        self.turn, self.stood, self.goes = 0, {}, {}
         visits = len(program[0][0]) if visits is None else visits
         for visit in range(visits):
             self.turn = visit
@@ -61,9 +62,11 @@ class PlainRun:
     def row(self, path, procedure, tree, visit):
         rule = self.program[procedure][2][tree[0]]
         for number, step in enumerate(rule[1][visit]):
+            self.stood[(path, visit, number)] = len(self.events)
             if step[0] == "go":
                 kid = path + (step[1],)
                 self.first.setdefault(kid, len(self.events))
+                self.goes.setdefault(kid, []).append(len(self.events))
                 turn = self.gone.get(kid, 0)
                 self.gone[kid] = turn + 1
                 self.row(kid, rule[0][step[1]], tree[1][step[1]], turn)
@@ -82,6 +85,7 @@ class PlainRun:
             elif slots[0] in self.at:
                 self.at[event["sets"]] = self.at[slots[0]]
             self.events.append(event)
+        self.stood[(path, visit, len(rule[1][visit]))] = len(self.events)
 
     def known(self, moment):
         return {path for path, first in self.first.items() if first < moment}
@@ -236,3 +240,38 @@ def plain_spans(run, lot):
         (value, use, sum(value < other < use for other in made))
         for value in made for use in run.users(value)
     ]
+
+
+def trees_by_depth(program, procedure, depth, most=300):
+    """All TREES of a PROCEDURE with at most so many levels; None if these are too many."""
+    known = {}
+
+    def within(number, levels):
+        if levels == 0:
+            return []
+        if (number, levels) not in known:
+            found = []
+            for rule, (callees, _) in enumerate(program[number][2]):
+                rows = [()]
+                for callee in callees:
+                    parts = within(callee, levels - 1)
+                    rows = [row + (tree,) for row in rows for tree in parts or []]
+                    if parts is None or len(rows) > most:
+                        rows = None
+                        break
+                if rows is None or len(found) + len(rows) > most:
+                    found = None
+                    break
+                found.extend((rule, row) for row in rows)
+            known[(number, levels)] = found
+        return known[(number, levels)]
+
+    return within(procedure, depth)
+
+
+def node_at(program, tree, path):
+    """The numbers of the PROCEDURE and the RULE of a node."""
+    number = 0
+    for place in path:
+        number, tree = program[number][2][tree[0]][0][place], tree[1][place]
+    return number, tree[0]

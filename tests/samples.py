@@ -46,6 +46,26 @@ FIVE = ((((),), (("r",),), tuple(
 )),)
 FIVE_NAMES = tuple((0, name) for name in "abcde")
 
+# Behind the first visit all buds and boughs keep their a for the second one.
+BUD = ((), ((("make", "a", ()),), (("make", "u", ("a",)),)))
+BOUGH = ((1, 1), (
+    (("make", "a", ()), ("go", 0), ("go", 1)),
+    (("go", 0), ("go", 1), ("make", "u", ("a", (0, "u"), (1, "u")))),
+))
+STEM = (((),), (("r",),), (((1,), ((("go", 0), ("go", 0), ("make", "r", ((0, "u"),))),)),))
+BUSH = (STEM, (((), ()), ((), ("u",)), (BUD, BOUGH)))
+YOUNG = (0, ((1, ((0, ()), (0, ()))),))
+# A callee that hands u up as it is.
+FURTHER = ((1,), ((("make", (0, "d"), ("d",)), ("go", 0), ("hand", "u", (0, "u"))),))
+RELAY = (TOP, ((("d",),), (("u",),), (LEAF, FURTHER)))
+TWO = ((((),), (("r",),), (((), (
+    (("make", "x", ()), ("make", "y", ()), ("make", "r", ("x", "y"))),
+)),)),)
+# y must not be written over x, which r is made of, too.
+MORE = ((((),), (("r",),), (((), (
+    (("make", "x", ()), ("make", "y", ("x",)), ("make", "r", ("x", "y"))),
+)),)),)
+
 CHAIN = (0, ((1, ((0, ()),)),))
 BOTH = (0, ((0, ()), (0, ())))
 D, A = ((1, "d"),), ((1, "a"),)

@@ -3,8 +3,8 @@
 import unittest
 
 from crossnest import (
-    alive, choices, entries, errors, lots, openings, patterns, profiles, programs, queues,
-    rounds, runs, stacks, trees,
+    alive, alives, choices, depths, entries, errors, frames, inplace, lots, openings, patterns,
+    profiles, programs, queues, rounds, runs, stacks, trees,
 )
 
 PROGRAMS = r'''
@@ -186,9 +186,71 @@ LOTS = r'''
 raises Unfit()
 '''
 
+ALIVES = r'''
+>>> lot, a = ((1, "d"),), ((1, "a"),)
+>>> counts(deep, chain, lot), most_alive(deep, lot), most_alive(twice, a), most_alive(lent, ((1, "x"), (1, "y")))
+([0, 1, 2, 1, 0, 0, 0], None, 2, 1)
+>>> is_alive_spot(deep, lot, 2, (chain, 2)), is_alive_spot(deep, lot, 2, (chain, 3)), alive_spot(twice, a, 3)
+(True, False, None)
+>>> homes_given(twice, pair, pairs_of(twice)), is_homes(twice, pair, a, ((0, 7), (1, 0))), is_homes(twice, pair, a, ((0, 1), (1, 1)))
+(((0, 0), (1, 1), (2, 0), (3, 1), (4, 0)), True, False)
+>>> is_grant(twice, ((1, "a", 1), (1, "u", 1)), (pair, 3)), grant(twice, ((1, "a", 2), (1, "u", 1)))
+(True, None)
+>>> most_left(twice, a, 1, 1), most_left(twice, a, 1, 2), most_left(twice, pairs_of(twice), 1, 2), most_left(deep, pairs_of(deep), 1, 1)
+(1, 0, 1, 0)
+>>> [most_alive_in(deep, pumped(deep, chain, (0,), (0,), many), lot)[0] for many in (1, 2, 3)], pump(twice, a)
+([2, 3, 4], None)
+'''
+
+DEPTHS = r'''
+>>> [height(deep, lot, depth) for depth in (1, 2, 3, 4)], power(deep, lot), slope(deep, lot), power(twice, a), full_depth(twice, a)
+([None, 1, 2, 3], 1, (1, 1), 0, 2)
+>>> bud = ((), ((("make", "a", ()),), (("make", "u", ("a",)),)))
+>>> bough = ((1, 1), ((("make", "a", ()), ("go", 0), ("go", 1)), (("go", 0), ("go", 1), ("make", "u", ("a", (0, "u"), (1, "u"))))))
+>>> stem = (((),), (("r",),), (((1,), ((("go", 0), ("go", 0), ("make", "r", ((0, "u"),))),)),))
+>>> bush = (stem, (((), ()), ((), ("u",)), (bud, bough)))
+>>> [height(bush, a, depth) for depth in (2, 3, 4)], power(bush, a), fork(deep, lot), is_height_spot(deep, lot, 3, (chain, 2))
+([1, 3, 7], None, None, True)
+>>> young = (0, ((1, ((0, ()), (0, ()))),))
+>>> forked(bush, young, (0,), (0,), (1,), 1) == young, nodes(forked(bush, young, (0,), (0,), (1,), 3))
+(True, 16)
+>>> forked(bush, young, (0,), (0,), (0,), 1)
+raises Unfit()
+>>> slope(bush, a)
+raises CanNot()
+'''
+
+FRAMES = r'''
+>>> [kept_at(deep, 1, 1, 0, step) for step in (0, 1, 2, 3)], kept_until(deep, 1, 0, "d"), kept_until(lent, 1, 1, "x")
+([('d',), ('d',), ('d',), ('u',)], (0, 0), None)
+>>> kept_until(lent, 1, 0, "x"), is_kept_run(lent, 1, 0, "x", ((0, ((0, ()),)), (0,), 0, 2))
+((0, 1), True)
+>>> further = ((1,), ((("make", (0, "d"), ("d",)), ("go", 0), ("hand", "u", (0, "u"))),))
+>>> relay = (top, ((("d",),), (("u",),), (leaf, further)))
+>>> drop_at(relay, 1, 1), drop_at(deep, 1, 1), tails(relay), one_frame(relay, 1), one_frame(deep, 1)
+((0, 1), None, ((1, 1, 0, 1),), True, False)
+>>> two = ((((),), (("r",),), (((), ((("make", "x", ()), ("make", "y", ()), ("make", "r", ("x", "y"))),)),)),)
+>>> frame_cells(two, 0), is_frame_clash(two, 0, "x", "y", ((0, ()), (), 0, 1, 2)), frame_cells(deep, 1)
+((('r', 'x'), ('y',)), True, (('d', 'u'),))
+'''
+
+INPLACE = r'''
+>>> spots(once), may_write_over(once, (0, 0, 0, 1, 0)), homes_in_place(once, (0, ()), best_overs(once))
+(((0, 0, 0, 1, 0),), True, ((0, 0), (1, 0)))
+>>> best_overs(deep), homes_in_place(deep, inner, best_overs(deep))
+(((0, 0, 0, 2, 0), (1, 0, 0, 0, 0), (1, 1, 0, 2, 0)), ((0, 0), (1, 1), (2, 1), (3, 0), (4, 0)))
+>>> more = ((((),), (("r",),), (((), ((("make", "x", ()), ("make", "y", ("x",)), ("make", "r", ("x", "y"))),)),)),)
+>>> over_spots(more), is_over_clash(more, (0, 0, 0, 1, 0), ((0, ()), 1, 2))
+(((0, 0, 0, 2, 0), (0, 0, 0, 2, 1)), True)
+>>> spoilt_in_place(more, (0, ()), ((0, 0, 0, 1, 0),))
+((2, 0, 1),)
+>>> may_write_over(more, (0, 1, 0, 0, 0))
+raises NoRule(number=1)
+'''
+
 MODULES = (
     errors, programs, trees, runs, alive, entries, choices, openings, profiles, patterns,
-    rounds, stacks, queues, lots,
+    rounds, stacks, queues, lots, alives, depths, frames, inplace,
 )
 
 
@@ -233,7 +295,7 @@ class Examples(unittest.TestCase):
     def test_all(self):
         for text in (
                 PROGRAMS, TREES, RUNS, ALIVE, ENTRIES, PROFILES, PATTERNS, ROUNDS, STACKS,
-                QUEUES, LOTS,
+                QUEUES, LOTS, ALIVES, DEPTHS, FRAMES, INPLACE,
         ):
             self.check(text)
 

@@ -125,6 +125,9 @@ class Form(unittest.TestCase):
                 if not isinstance(node, ast.ImportFrom):
                     continue
                 self.assertEqual(node.level, 0)
+                if node.module == "math":
+                    self.assertLessEqual({alias.name for alias in node.names}, {"gcd"} & used)
+                    continue
                 self.assertTrue(node.module.startswith("crossnest."), node.module)
                 other = node.module.split(".")[1] + ".py"
                 leads[name].add(other)

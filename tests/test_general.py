@@ -28,6 +28,13 @@ LISTED = {
     "queues": "queue_rows missed_in_queue can_be_queue nesting is_nesting order_rows kept_up"
               " can_be_order outlasting is_outlasting",
     "lots": "share table_of fits greatest_lots fewest_lots is_parting none_share cheapest_lots",
+    "alives": "counts most_alive alive_spot is_alive_spot grant is_grant homes_given is_homes"
+              " most_left pump",
+    "depths": "height height_spot is_height_spot power full_depth slope steep forked fork",
+    "frames": "kept_until kept_at kept_run is_kept_run drop_at tails one_frame frame_clash"
+              " is_frame_clash frame_cells",
+    "inplace": "spots over_spots may_write_over over_clash is_over_clash best_overs homes_in_place"
+               " spoilt_in_place",
 }
 # The classes, what each is under, and what its constructor takes.
 ERRORS = {
@@ -44,7 +51,7 @@ ERRORS = {
 }
 LISTS = (
     "trees_of", "events", "moments", "passings", "stack_rows", "region_rows", "queue_rows",
-    "order_rows",
+    "order_rows", "counts",
 )
 
 
