@@ -53,7 +53,7 @@ def most_alive(program, lot):
     """Give the greatest number of values of the LOT alive at any spot, None if there is none."""
     program, lot = frozen(program), frozen(lot)
     check_pairs(program, lot)
-    scenes = Scenes(program)
+    scenes = Scenes(program, lot)
     return sum_at_roots(scenes, greatest_sums(scenes.edges_for(lot)))
 
 
@@ -66,7 +66,7 @@ def alive_spot(program, lot, many):
     """Give a spot with at least many values of the LOT alive, None if there is none."""
     program, lot = frozen(program), frozen(lot)
     check_pairs(program, lot)
-    scenes = Scenes(program)
+    scenes = Scenes(program, lot)
     sums, trees = trees_by_sum(scenes.edges_for(lot), many)
     for node in scenes.roots:
         if sums[node] >= many:
@@ -110,8 +110,9 @@ def moments_granting(program, tree, wishes):
 def grant(program, wishes):
     """Give a spot that grants the wishes, None if there is none."""
     program, wishes = frozen(program), frozen(wishes)
-    check_pairs(program, [(procedure, name) for procedure, name, _ in wishes])
-    tree = Grants(Scenes(program), wishes).granting_tree()
+    pairs = [(procedure, name) for procedure, name, _ in wishes]
+    check_pairs(program, pairs)
+    tree = Grants(Scenes(program, pairs), wishes).granting_tree()
     return None if tree is None else (tree, moments_granting(program, tree, wishes)[0])
 
 
@@ -170,7 +171,7 @@ def most_left(program, lot, procedure, visits):
     program, lot = frozen(program), frozen(lot)
     check_pairs(program, lot)
     check_procedure(program, procedure)
-    scenes = Scenes(program)
+    scenes = Scenes(program, lot)
     edges = scenes.edges_for(lot)
     sums = greatest_sums(edges)
     # The root is never left: just those nodes of which others come.
@@ -188,7 +189,7 @@ def pump(program, lot):
     None if there is a greatest number."""
     program, lot = frozen(program), frozen(lot)
     check_pairs(program, lot)
-    scenes = Scenes(program)
+    scenes = Scenes(program, lot)
     edges = scenes.edges_for(lot)
     if sum_at_roots(scenes, greatest_sums(edges)) is not None:
         return None

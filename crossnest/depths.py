@@ -13,7 +13,7 @@ from crossnest.sums import trees_by_sum
 
 def stairs_to(program, lot, level):
     """Give the Stairs up to a depth."""
-    scenes = Scenes(program)
+    scenes = Scenes(program, lot)
     stairs = Stairs(scenes, scenes.edges_for(lot))
     for _ in range(level):
         stairs.climb()
@@ -47,7 +47,7 @@ def is_height_spot(program, lot, depth, thing):
 
 def growing_of(program, lot):
     """Give the scenes of a PROGRAM and how the sums for a LOT grow."""
-    scenes = Scenes(program)
+    scenes = Scenes(program, lot)
     return scenes, Growing(scenes.edges_for(lot))
 
 

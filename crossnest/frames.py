@@ -270,7 +270,7 @@ def frame_cells(program, procedure):
             clashing[(other, at)] = clashes
 
     def may_join(group, at):
-        return not any([clashing[(other, at)] for other in group])
+        return not any([clashing[(one, at)] for one in group])
 
     groups = best_parting(len(names), may_join, lambda groups: 0)
     return tuple([tuple([names[at] for at in group]) for group in groups])

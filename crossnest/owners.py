@@ -115,11 +115,9 @@ class Keeping(Owning):
 
     def enterings(self, trip, act):
         """List the Trips behind the begin of a visit."""
+        found = super().enterings(trip, act)
         # What was made and used ahead of this visit does not matter to a new owner.
-        return [
-            more for more in super().enterings(trip, act)
-            if trip.owner == more.owner or more.phase == 1
-        ]
+        return [more for more in found if trip.owner == more.owner or more.phase == 1]
 
     def usings(self, trip, act, guess):
         """List the Trips behind a make that may use the value."""

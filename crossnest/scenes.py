@@ -8,7 +8,7 @@ the OUT of this port, in a visit that is done or in a later one. Its *setting* t
 can become, outside, of values that come out of it. A *scene* is (status, manner, setting).
 """
 
-from crossnest.checks import seats_of
+from crossnest.checks import pair_of, seats_of
 from crossnest.cuts import courses_of
 from crossnest.leasts import shallow_table
 from crossnest.passing import best_members
@@ -62,19 +62,47 @@ def settled_members(members, width, is_once):
     return tuple(greatest(members, width))
 
 
+def pairs_holding(program, lot):
+    """Give a dict with the pairs as keys at which values of a LOT can come to stand."""
+    found, changed = {pair: True for pair in lot}, True
+    while changed:
+        changed = False
+        for at, procedure in enumerate(program):
+            for rule in procedure[2]:
+                for step in [step for row in rule[1] for step in row if step[0] == "hand"]:
+                    pair = pair_of(at, rule, step[1])
+                    if pair not in found and pair_of(at, rule, step[2]) in found:
+                        found[pair] = True
+                        changed = True
+    return found
+
+
 class Scenes:
     """The scenes of a PROGRAM as nodes of a web; what counts by an edge is the list of the pairs
-    of the values that the node itself made and that are alive."""
+    of those values of a LOT that the node itself made and that are alive."""
 
-    def __init__(self, program):
+    def __init__(self, program, lot):
         self.program = program
         self.plans = Plans(program)
+        self.counted = {pair: True for pair in lot}
+        # For each PROCEDURE the ports at which values of the LOT can stand: the others do not
+        # matter.
+        held = pairs_holding(program, lot)
+        self.held = [
+            sum([bit for name, bit in ports.bits.items() if (at, name) in held])
+            for at, ports in enumerate(self.plans.ports)
+        ]
+        self.settings = {}
         best = best_members(self.plans, seats_of(program))
         # The manners of nodes that are not known.
         self.strange = {}
         for seat, members in best.items():
-            ways = [member[1:] for member in members]
-            width = self.plans.ports[seat[0]].width
+            ways, width = [], self.plans.ports[seat[0]].width
+            for member in members:
+                ways.append(tuple([
+                    does if self.held[seat[0]] >> port & 1 else 0
+                    for port, does in enumerate(member[1:])
+                ]))
             self.strange[seat] = settled_members(ways, width, seat[1] == 1)
         # By status: its Courses, and its manners, each with the pairs (Course, parts) that
         # have it, parts being the manners of the callees.
@@ -142,7 +170,7 @@ class Scenes:
         for row in rows_by(self.manners_of(course, parts)):
             member = [0 for _ in plan.own.names]
             for visit in range(status[1]):
-                for port in plan.own.ins_by_visit[visit]:
+                for port in self.ports_held(status[0], plan.own.in_masks[visit]):
                     told = flow(plan, course.stop, plan.begins[visit], 1 << port, row, None)
                     member[port] = told & (1 | outs << 1)
             members.append(tuple(member))
@@ -151,6 +179,14 @@ class Scenes:
 
     def setting_of(self, course, parts, setting, place):
         """Give the setting of the callee at this place."""
+        others = parts[:place] + (None,) + parts[place + 1:]
+        mark = (course.plan.seat, course.plan.number, course.stop, others, setting, place)
+        if mark not in self.settings:
+            self.settings[mark] = self.find_setting(course, parts, setting, place)
+        return self.settings[mark]
+
+    def find_setting(self, course, parts, setting, place):
+        """Find this setting."""
         plan, members = course.plan, []
         ports, offset = plan.ports[place], plan.offsets[place]
         families = self.manners_of(course, parts)
@@ -161,11 +197,10 @@ class Scenes:
                 member = [0 for _ in ports.names]
                 for visit in range(plan.goes[place]):
                     start = plan.behind[(place, visit)]
-                    for port in range(len(ports.names)):
-                        if ports.out_masks[visit] >> port & 1:
-                            words = 1 << offset + port
-                            told = flow(plan, course.stop, start, words, row, outer)
-                            member[port] = told & 1 | (told >> 1 + offset & ins) << 1
+                    for port in self.ports_held(plan.callees[place], ports.out_masks[visit]):
+                        words = 1 << offset + port
+                        told = flow(plan, course.stop, start, words, row, outer)
+                        member[port] = told & 1 | (told >> 1 + offset & ins) << 1
                 members.append(tuple(member))
         _, many, done, cut = course.seats[place]
         return settled_members(members, ports.width, done + cut == many)
@@ -177,13 +212,18 @@ class Scenes:
             (row, outer) for row in rows_by(self.manners_of(course, parts)) for outer in setting
         ]
         for at, act in enumerate(plan.acts[:course.stop]):
-            if act[0] == MAKE:
+            if act[0] == MAKE and act[3] in self.counted:
                 told = [
                     flow(plan, course.stop, at + 1, act[1], row, outer) & 1 for row, outer in rows
                 ]
                 if any(told):
                     found.append(act[3])
         return found
+
+    def ports_held(self, procedure, mask):
+        """List those ports of a mask at which values of the LOT can stand."""
+        mask &= self.held[procedure]
+        return [port for port in range(mask.bit_length()) if mask >> port & 1]
 
     def node_of(self, mark):
         """Give the node of a scene."""

@@ -21,10 +21,10 @@ class Spanning(Tracing):
             more.reach(2)
             found.append(more)
         if act[3] in self.pairs:
-            self.count(trip)
+            self.count_make(trip)
         return found
 
-    def count(self, trip):
+    def count_make(self, trip):
         """Count one make more."""
         trip.gain += 1
 
@@ -46,7 +46,7 @@ class Counting(Spanning):
         """Give what a state keeps besides, at its start."""
         return None, 0
 
-    def count(self, trip):
+    def count_make(self, trip):
         """Count one make more."""
         pair, many = trip.extra
         trip.extra = (pair, min(self.enough, many + 1))

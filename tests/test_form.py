@@ -215,6 +215,9 @@ class Form(unittest.TestCase):
                 self.assertNotIsInstance(node, (ast.GeneratorExp, ast.JoinedStr, ast.NamedExpr), where)
                 if isinstance(node, ast.Constant):
                     self.assertNotIsInstance(node.value, (float, complex), where)
+                if isinstance(node, (ast.ListComp, ast.DictComp, ast.SetComp, ast.Lambda)):
+                    words = [part.id for part in ast.walk(node) if isinstance(part, ast.Name)]
+                    self.assertNotIn("super", words, where)
                 if isinstance(node, ast.Pow):
                     self.fail(where)
                 if isinstance(node, ast.Compare):

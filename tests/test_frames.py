@@ -140,7 +140,7 @@ class Plain(unittest.TestCase):
         self.assertEqual(frame_cells(program, 1), (("d",),))
         # The second row of the callee is never run.
         program = (HALF[0], (HALF[1][0], HALF[1][1], (((), ((make("x"),), (make("y"),))),)))
-        self.assertEqual(frame_cells(program, 1), (("c", "x"), ("g",)))
+        self.assertEqual(frame_cells(program, 1), (("c",), ("g", "x")))
 
     def test_is_kept_run(self):
         good = (LENT_TREE, (0,), 0, 2)
