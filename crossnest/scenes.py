@@ -77,6 +77,22 @@ def pairs_holding(program, lot):
     return found
 
 
+def can_come_to_use(port, outer, inner):
+    """Tell whether a value that came out at a port can be used, outside or when it is back in."""
+    seen, waiting = {(True, port): True}, [(True, port)]
+    while waiting:
+        is_out, at = waiting.pop()
+        does = outer[at] if is_out else inner[at]
+        if does & 1:
+            return True
+        for other in range(len(outer)):
+            mark = (not is_out, other)
+            if does >> 1 + other & 1 and mark not in seen:
+                seen[mark] = True
+                waiting.append(mark)
+    return False
+
+
 class Scenes:
     """The scenes of a PROGRAM as nodes of a web; what counts by an edge is the list of the pairs
     of those values of a LOT that the node itself made and that are alive."""
@@ -205,6 +221,18 @@ class Scenes:
         _, many, done, cut = course.seats[place]
         return settled_members(members, ports.width, done + cut == many)
 
+    def folded(self, status, manner, setting):
+        """Give a setting that does the same for values made within: if the node is gone to at
+        most once more, what comes out of it can be used or not, as both tell together."""
+        if status[1] - status[2] > 1:
+            return setting
+        many = len(self.plans.ports[status[0]].names)
+        found = [0 for _ in range(many)]
+        for member in setting:
+            for port in range(many):
+                found[port] |= 1 if can_come_to_use(port, member, manner[0]) else 0
+        return (tuple(found),)
+
     def lives_of(self, course, parts, setting):
         """List the pairs of the values made by the node itself that are alive."""
         plan, found = course.plan, []
@@ -250,6 +278,7 @@ class Scenes:
                 for place, seat in enumerate(course.seats):
                     if seat is not None:
                         inner = self.setting_of(course, parts, setting, place)
+                        inner = self.folded(seat, parts[place], inner)
                         sources.append((place, self.node_of((seat, parts[place], inner))))
                 lives = self.lives_of(course, parts, setting)
                 idle = [
