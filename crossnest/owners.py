@@ -1,6 +1,6 @@
 """Searches for a value in the frame of a node, the *owner* (see trails)."""
 
-from crossnest.plans import ENTER
+from crossnest.plans import ENTER, GO
 from crossnest.trails import NOBODY, SELF, Search, Tracing
 
 
@@ -44,9 +44,20 @@ class Owning(Tracing):
                 return place if trip.owner == (place if is_chosen else NOBODY) else None
         return None
 
+    def branches(self, trip, act):
+        """List the Trips behind an act: no value is made in one callee for the frame of another."""
+        if act[0] == GO and trip.waiting[act[1]] and trip.owner not in (NOBODY, act[1]):
+            phase, _, after, _ = trip.waiting[act[1]][0]
+            if phase == 0 and after > 0:
+                return []
+        return super().branches(trip, act)
+
     def enterings(self, trip, act):
         """List the Trips behind the begin of a visit: the value may just have been made for it."""
         found = super().enterings(trip, act)
+        if trip.owner >= 0:
+            # It is yet to be made here, if it is not made by now.
+            return [more for more in found if trip.phase > 0 or more.phase == 0]
         is_free = trip.owner == NOBODY and trip.phase == 0
         if is_free and act[1] == self.coming and self.may_own(trip.plan):
             bit = trip.plan.own.bits[self.name]

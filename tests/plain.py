@@ -275,3 +275,42 @@ def node_at(program, tree, path):
     for place in path:
         number, tree = program[number][2][tree[0]][0][place], tree[1][place]
     return number, tree[0]
+
+
+def handing_program(seed):
+    """A PROGRAM of a start and a callee with two visits, whose RULES hand on most of what comes."""
+    chance = random.Random(seed)
+
+    def sets(words, have, hands):
+        row = []
+        for word in words:
+            if chance.random() < hands:
+                row.append(("hand", word, chance.choice(have)))
+            else:
+                row.append(("make", word, tuple(chance.sample(have, chance.randint(0, 2)))))
+        return row
+
+    def leaf():
+        first = sets("ef", ["a", "b"], 0.8)
+        return (), (tuple(first), tuple(sets("gh", list("abcdef"), 0.7)))
+
+    def ring():
+        have = ["a", "b"]
+        first = sets([(0, "a"), (0, "b")], have, 0.8) + [("go", 0)]
+        have += [(0, "e"), (0, "f")]
+        first += sets("ef", have, 0.8)
+        second, have = [], have + list("cdef")
+        if chance.random() < 0.85:
+            second = sets([(0, "c"), (0, "d")], have, 0.8) + [("go", 0)]
+            have += [(0, "g"), (0, "h")]
+        return (1,), (tuple(first), tuple(second + sets("gh", have, 0.8)))
+
+    row = (
+        ("make", (0, "a"), ()), ("make", (0, "b"), ()), ("go", 0), ("make", "x", ((0, "e"),)),
+        ("hand", (0, "c"), chance.choice([(0, "e"), (0, "f"), (0, "a"), "x"])),
+        ("hand", (0, "d"), chance.choice([(0, "f"), (0, "b")])), ("go", 0),
+        ("make", "r", ((0, "g"), (0, "h"))),
+    )
+    rules = [leaf() for _ in range(chance.randint(1, 2))] + [ring() for _ in range(chance.randint(1, 2))]
+    ports = (("a", "b"), ("c", "d")), (("e", "f"), ("g", "h"))
+    return (((),), (("r",),), (((1,), (row,)),)), ports + (tuple(rules),)

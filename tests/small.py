@@ -3,8 +3,11 @@
 import random
 
 from crossnest.programs import pairs_of
-from tests.plain import PlainRun, plain_trees
+from tests.plain import PlainRun, handing_program, plain_trees
 from tests.test_trees import clean_programs
+
+# Two visits, by which values are handed on and back.
+HANDING = None
 
 KINDS = (
     # With rings and hands, without hands, with one visit, with three.
@@ -12,6 +15,7 @@ KINDS = (
     dict(procedures=3, rules=2, ins=2, outs=2, visits=2, callees=2, hands=0.0),
     dict(procedures=3, rules=2, ins=2, outs=2, visits=1, callees=2, hands=0.5),
     dict(procedures=2, rules=1, ins=1, outs=1, visits=3, callees=3, hands=0.4),
+    HANDING,
 )
 # Within the bounds of the points about how many are alive.
 SLIM = (
@@ -19,7 +23,15 @@ SLIM = (
     dict(procedures=3, rules=1, ins=2, outs=2, visits=2, callees=2, hands=0.2),
     dict(procedures=3, rules=1, ins=2, outs=2, visits=1, callees=3, hands=0.3),
     dict(procedures=2, rules=2, ins=1, outs=1, visits=2, callees=2, hands=0.6),
+    HANDING,
 )
+
+
+def programs_of(seeds, kind):
+    """Pairs of a seed and a clean PROGRAM."""
+    if kind is HANDING:
+        return [(seed, handing_program(seed)) for seed in seeds]
+    return clean_programs(seeds, **kind)
 
 
 def small_trees(program, most=7, many=150):
@@ -35,7 +47,7 @@ def small_programs(seeds, kinds=KINDS, rules=8, names=4):
     """Triples of a PROGRAM, a LOT of it, and its small RUNS: pairs of a TREE and a PlainRun;
     and the number of nodes up to which these are all."""
     for number, kind in enumerate(kinds):
-        for seed, program in clean_programs(seeds, **kind):
+        for seed, program in programs_of(seeds, kind):
             if sum(len(rows) for _, _, rows in program) > rules:
                 continue
             most, trees = small_trees(program)

@@ -11,7 +11,7 @@ from crossnest.frames import (
 from crossnest.programs import names_of
 from crossnest.rounds import can_be_cell
 from crossnest.trees import is_tree, nodes
-from tests.plain import PlainRun, node_at
+from tests.plain import PlainRun, handing_program, node_at
 from tests.samples import (
     BOTH, BUSH, CHAIN, DEEP, LENT, ONCE, RELAY, TOP, TWICE, TWO, wide_program,
 )
@@ -296,6 +296,23 @@ class ForAllRuns(unittest.TestCase):
         self.assertEqual(sorted([values[(path, name)], values[(path, other)]]), [made, later])
         self.assertTrue(made < later < use)
         self.assertIn(use, run.users(made))
+
+    def test_values_that_are_handed_to_a_name_are_in_no_frame_there(self):
+        # Here a node hands the value of its own frame on, to the same NAME of its callee.
+        for seed in (8, 18, 21):
+            program = handing_program(seed)
+            names = names_of(program, 1)
+            for rule in range(len(program[1][2])):
+                for name in names:
+                    until = kept_until(program, 1, rule, name)
+                    self.assertEqual(kept_run(program, 1, rule, name) is None, until is None)
+            clashing = {
+                (name, other) for name in names for other in names
+                if frame_clash(program, 1, name, other) is not None
+            }
+            cells = frame_cells(program, 1)
+            told = sorted(name for cell in cells for name in cell)
+            self.assertEqual(cells, self.best_cells(told, clashing))
 
     def best_cells(self, names, clashing):
         """The least of the tuples with the fewest sets."""
