@@ -150,7 +150,7 @@ class Plain(unittest.TestCase):
 
 class ForAllPrograms(unittest.TestCase):
     def test_partings(self):
-        for program, lot, _, _ in small_programs(range(200, 205), names=4):
+        for program, lot, _, _ in small_programs(range(200, 203), names=4):
             for home, serves in SERVES.items():
                 told = {
                     (one, other): serves(program, tuple(sorted({one, other}))) for one in lot for other in lot

@@ -97,7 +97,7 @@ class Plain(unittest.TestCase):
 
 class ForAllRuns(unittest.TestCase):
     def test_against_small_runs(self):
-        for program, lot, rows, most in small_programs(range(14)):
+        for program, lot, rows, most in small_programs(range(9)):
             for pattern in PATTERNS:
                 first, pairs = None, set()
                 for tree, run in rows:
