@@ -70,7 +70,7 @@ class Chances:
     def way_to_use(self, value, moment):
         """Give picks by which the value is used at an EVENT from moment on, None without any."""
         waiting = [(slot, ()) for slot in self.slots[value] if self.walk.set_at[slot] < moment]
-        seen = set()
+        seen = {}
         while waiting:
             slot, picks = waiting.pop()
             if slot is None:
@@ -78,7 +78,7 @@ class Chances:
             mark = (slot, self.marks_of(picks))
             if mark in seen:
                 continue
-            seen.add(mark)
+            seen[mark] = True
             waiting.extend([(target, picks) for target in self.readings(slot, moment)])
             if self.is_way_in(slot, moment):
                 waiting.extend(self.ways_through(slot, picks))

@@ -56,8 +56,25 @@ def is_tuple_of(thing, many):
     return isinstance(thing, tuple) and len(thing) == many
 
 
+def does_ascend(parts):
+    """Tell whether each of these parts is less than the next one."""
+    return all([parts[at] < parts[at + 1] for at in range(len(parts) - 1)])
+
+
 def is_name_set(thing):
     """Tell whether thing is an ascending tuple of NAMES."""
     if not isinstance(thing, tuple) or not all([is_name(name) for name in thing]):
         return False
-    return all([thing[at] < thing[at + 1] for at in range(len(thing) - 1)])
+    return does_ascend(thing)
+
+
+def is_named(thing):
+    """Tell whether thing is a pair of a number from 0 and a NAME."""
+    return is_tuple_of(thing, 2) and is_number(thing[0]) and thing[0] >= 0 and is_name(thing[1])
+
+
+def is_pair_set(thing):
+    """Tell whether thing is a set of pairs of a number from 0 and a NAME."""
+    if not isinstance(thing, tuple) or not all([is_named(pair) for pair in thing]):
+        return False
+    return does_ascend(thing)

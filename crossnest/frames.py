@@ -205,7 +205,7 @@ def clash_tree(program, procedure, name, other):
     """Give a TREE with a RUN in which both NAMES clash, None if there is none."""
     for one, more in ((name, other), (other, name)):
         kind = Clashing(Plans(program), procedure, one, more)
-        tree = first_tree(Growth(program, kind), kind.start_key(), kind.is_met)
+        tree = first_tree(Growth(program, kind))
         if tree is not None:
             return tree
     return None

@@ -22,13 +22,15 @@ def used_guesses(pattern):
     return [guess for guess in range(many_guesses(pattern)) if ("use", guess) in pattern]
 
 
-def first_tree(growth, key, is_wanted):
-    """Give the least TREE with a result under this key that is wanted, None if there is none."""
+def first_tree(growth):
+    """Give the least TREE in whose RUN all aims of the search that grows are met, None if there
+    is none."""
+    kind = growth.kind
+    key, seen = kind.start_key(), 0
     growth.ask(key)
-    seen = 0
     while growth.step():
         results = list(growth.found[key].items())
-        found = [told for result, told in results[seen:] if is_wanted(result)]
+        found = [told for result, told in results[seen:] if kind.is_met(result)]
         seen = len(results)
         if found:
             return min(found)[1]
@@ -56,14 +58,12 @@ def kind_for(program, lot, pattern):
 
 def is_taken(program, lot, pattern):
     """Tell whether some RUN takes the PATTERN."""
-    kind = kind_for(program, lot, pattern)
-    return first_tree(Growth(program, kind), kind.start_key(), kind.is_met) is not None
+    return first_tree(Growth(program, kind_for(program, lot, pattern))) is not None
 
 
 def tree_taking(program, lot, pattern):
     """Give the least TREE whose RUN takes the PATTERN, None if there is none."""
-    kind = kind_for(program, lot, pattern)
-    return first_tree(Sorted(program, kind), kind.start_key(), kind.is_met)
+    return first_tree(Sorted(program, kind_for(program, lot, pattern)))
 
 
 class Naming(Tracing):

@@ -57,8 +57,7 @@ def check_spot(program, spot):
 
 def clash_tree(program, spot):
     """Give a TREE with a RUN in which the value is used later, None if there is none."""
-    kind = Overwriting(Plans(program), spot)
-    return first_tree(Growth(program, kind), kind.start_key(), kind.is_met)
+    return first_tree(Growth(program, Overwriting(Plans(program), spot)))
 
 
 def over_spots(program):

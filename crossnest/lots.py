@@ -2,7 +2,7 @@
 
 from crossnest.checks import check_name, check_ports, check_procedure
 from crossnest.errors import Unfit
-from crossnest.forms import frozen, is_number_below, is_tuple_of
+from crossnest.forms import frozen, is_pair_set
 from crossnest.groups import best_parting, groups_of
 from crossnest.hunts import is_taken, pairs_taking
 from crossnest.patterns import pattern_of
@@ -42,8 +42,6 @@ class Table:
 
     def find_spoiling(self):
         """Find all tuples of pairs values of which spoil the home, if it has a PATTERN."""
-        if self.home != "cell":
-            check_ports(self.program)
         told = pairs_taking(self.program, self.lot, pattern_of(self.home, 1))
         self.spoiling = {pairs: True for pairs in told}
 
@@ -82,10 +80,18 @@ def share(program, home, one, other):
     return does_fit(program, home, tuple(sorted({one: True, other: True})))
 
 
+def check_fitting(program, home, lot):
+    """Raise TooMany as it is raised for a LOT of one or two of these pairs, if there are any."""
+    # A cell raises nothing: [11] names no bound.
+    if home != "cell" and len(lot) > 0:
+        check_ports(program)
+
+
 def table_for(program, home, lot):
     """Give the Table of a LOT, all being checked."""
     program, lot = frozen(program), frozen(lot)
     check_asked(program, home, lot)
+    check_fitting(program, home, lot)
     return Table(program, home, lot)
 
 
@@ -126,7 +132,11 @@ def least_parting(table, cost):
     """Give the PARTING with the least cost, the fewest LOTS, and the least; None without any."""
     if not all([table.is_good(at) for at in range(len(table.lot))]):
         return None
-    best = best_parting(len(table.lot), table.goes_with, cost)
+
+    def may_join(group, at):
+        return table.goes_with(group, at)
+
+    best = best_parting(len(table.lot), may_join, cost)
     return tuple([table.told(group) for group in best])
 
 
@@ -137,14 +147,7 @@ def fewest_lots(program, home, lot):
 
 def is_lot_within(thing, lot):
     """Tell whether thing is a LOT, not (), of pairs of this LOT."""
-    if not isinstance(thing, tuple) or len(thing) == 0:
-        return False
-    for pair in thing:
-        if not is_tuple_of(pair, 2) or not isinstance(pair[1], str):
-            return False
-        if not is_number_below(pair[0], 1 + lot[-1][0]) or pair not in lot:
-            return False
-    return all([thing[at] < thing[at + 1] for at in range(len(thing) - 1)])
+    return is_pair_set(thing) and len(thing) > 0 and all([pair in lot for pair in thing])
 
 
 def is_parting(program, home, lot, thing):
@@ -153,8 +156,8 @@ def is_parting(program, home, lot, thing):
     check_asked(program, home, lot)
     if not isinstance(thing, tuple):
         return False
-    if len(lot) == 0 or not all([is_lot_within(part, lot) for part in thing]):
-        return len(thing) == len(lot) == 0
+    if not all([is_lot_within(part, lot) for part in thing]):
+        return False
     if not all([thing[at] < thing[at + 1] for at in range(len(thing) - 1)]):
         return False
     if sorted([pair for part in thing for pair in part]) != sorted(lot):
@@ -178,9 +181,11 @@ def none_share(program, home, lot):
 
 def cheapest_lots(program, home, lot, sizes):
     """Give the PARTING with the least sum of sizes, the fewest LOTS, and the least."""
-    table, sizes = table_for(program, home, lot), frozen(sizes)
-    if len(sizes) != len(table.lot):
+    program, lot, sizes = frozen(program), frozen(lot), frozen(sizes)
+    check_asked(program, home, lot)
+    if len(sizes) != len(lot):
         raise Unfit()
+    table = table_for(program, home, lot)
 
     def cost(groups):
         return sum([max([sizes[at] for at in group]) for group in groups])

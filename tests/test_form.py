@@ -68,6 +68,66 @@ def bound_in(function):
     return set(found)
 
 
+def methods_in(tree):
+    """The names of the methods of each class."""
+    return {
+        node.name: {part.name for part in node.body if isinstance(part, ast.FunctionDef)}
+        for node in ast.walk(tree) if isinstance(node, ast.ClassDef)
+    }
+
+
+def bases_in(tree):
+    return {
+        node.name: [base.id for base in node.bases if isinstance(base, ast.Name)]
+        for node in ast.walk(tree) if isinstance(node, ast.ClassDef)
+    }
+
+
+def stored_in(tree):
+    """The names of the attributes that are assigned."""
+    return {
+        node.attr for node in ast.walk(tree)
+        if isinstance(node, ast.Attribute) and isinstance(node.ctx, ast.Store)
+    }
+
+
+def family_of(name, bases):
+    """A class and those above it."""
+    found, waiting = [], [name]
+    while waiting:
+        at = waiting.pop()
+        found.append(at)
+        waiting.extend(bases.get(at, []))
+    return found
+
+
+def handed_on(tree, methods, bases, stored):
+    """The rows in which a method, own or of a builtin value, is read off an object and not called.
+
+    A name that some class has as an attribute is taken as that, but for a method off self.
+    """
+    above = parents_in(tree)
+    own = {name for told in methods.values() for name in told}
+    found = []
+    for node in ast.walk(tree):
+        if not isinstance(node, ast.Attribute) or not isinstance(node.ctx, ast.Load):
+            continue
+        outer = above[node]
+        if isinstance(outer, ast.Call) and outer.func is node:
+            continue
+        if isinstance(outer, ast.keyword) and outer.arg == "key" and node.attr in own:
+            continue
+        near = outer
+        while near is not None and not isinstance(near, ast.ClassDef):
+            near = above.get(near)
+        mine = set()
+        if near is not None and isinstance(node.value, ast.Name) and node.value.id == "self":
+            mine = {name for at in family_of(near.name, bases) for name in methods.get(at, ())}
+        if node.attr in mine or (node.attr in own | METHODS and node.attr not in stored):
+            found.append(node.lineno)
+    return sorted(found)
+
+
 def parents_in(tree):
     return {kid: node for node in ast.walk(tree) for kid in ast.iter_child_nodes(node)}
 
@@ -183,23 +243,67 @@ class Form(unittest.TestCase):
                     self.assertIn(node.func.attr, METHODS | made, (name, node.lineno))
             self.assertEqual((local | top) & NEVER, set())
 
-    def test_methods_are_no_attributes(self):
-        methods, stored, read = {}, set(), set()
+    def test_methods_and_attributes(self):
+        methods, stored, read = {}, {}, set()
         for name in files():
             for node in ast.walk(tree_of(name)):
                 if isinstance(node, ast.ClassDef):
+                    stored[node.name] = stored_in(node)
                     for part in node.body:
                         if isinstance(part, ast.FunctionDef):
                             self.assertNotIn((node.name, part.name), methods)
                             self.assertFalse(part.name.startswith("__") and part.name not in SPECIAL)
                             methods[(node.name, part.name)] = True
-                if isinstance(node, ast.Attribute):
-                    (stored if isinstance(node.ctx, ast.Store) else read).add(node.attr)
+                if isinstance(node, ast.Attribute) and isinstance(node.ctx, ast.Load):
+                    read.add(node.attr)
+        every = {name for told in stored.values() for name in told}
         names = {name for _, name in methods}
         self.assertEqual(names & BUILTINS, set())
-        self.assertEqual(names & stored, set())
-        self.assertEqual(read - stored - names - METHODS, set())
-        self.assertEqual(stored & set("items keys values pop update append clear extend insert".split()), set())
+        self.assertEqual(read - every - names - METHODS - {"__class__"}, set())
+        self.assertEqual(every & set("items keys values pop update append clear extend insert".split()), set())
+        # No class, with those above it, has a name as both.
+        bases = {at: more for name in files() for at, more in bases_in(tree_of(name)).items()}
+        for name in bases:
+            family = family_of(name, bases)
+            told = {part for at, part in methods if at in family}
+            kept = {part for at in family for part in stored.get(at, ())}
+            self.assertEqual(told & kept, set(), name)
+
+    def test_no_class_has_a_method_of_sets(self):
+        # Where one has, no stored set may be added to or discarded from: dicts are taken.
+        for name in files():
+            for node in ast.walk(tree_of(name)):
+                if isinstance(node, ast.Call) and isinstance(node.func, ast.Attribute):
+                    if node.func.attr in ("add", "discard"):
+                        self.assertIsInstance(node.func.value, ast.Attribute, (name, node.lineno))
+
+    def test_methods_are_not_handed_on(self):
+        trees = {name: tree_of(name) for name in files()}
+        methods = {at: told for tree in trees.values() for at, told in methods_in(tree).items()}
+        bases = {at: told for tree in trees.values() for at, told in bases_in(tree).items()}
+        stored = {word for tree in trees.values() for word in stored_in(tree)}
+        self.places([
+            (name, row) for name, tree in trees.items() for row in handed_on(tree, methods, bases, stored)
+        ])
+
+    def test_the_look_at_methods_finds_what_is_handed_on(self):
+        made = (
+            "class Low:\n    def met(self, row):\n        return row\n"
+            "class Box(Low):\n    def __init__(self):\n        self.many = 0\n"
+            "    def many_of(self, row):\n"
+        )
+        for line, is_found in (
+                ("return self.met", True), ("return self.met(row)", False), ("row.told = self.many_of", True),
+                ("return first(row, row.met)", True), ("return [row.met]", True), ("return {1: row.met}", True),
+                ("return row.many", False), ("return self.many", False), ("add = row.append", True),
+                ("return first(row.index)", True), ("return sorted(row, key=row.met)", False),
+                ("return sorted(row, key=row.index)", True), ("return lambda at: row.met(at)", False),
+                ("return row.met and row", True), ("return row.met(row).many", False),
+                ("return row.many.append", True), ("return row.append(self.met)", True),
+        ):
+            tree = ast.parse(made + "        " + line + "\n")
+            rows = handed_on(tree, methods_in(tree), bases_in(tree), stored_in(tree))
+            self.assertEqual(rows, [8] if is_found else [], line)
 
     def test_statements_and_expressions(self):
         for name in files():

@@ -143,6 +143,13 @@ class Plain(unittest.TestCase):
                 share(wide, home, *lot)
             self.assertFalse(is_parting(wide, home, lot, None))
             self.assertEqual(error_told(cheapest_lots, wide, home, lot, ()), ("Unfit",))
+            # Also of a LOT of one pair, which shares with no other one; but () has no such LOT.
+            for call, rest in CALLS:
+                with self.assertRaises(TooMany):
+                    call(wide, home, *rest(lot[:1]))
+            for call, rest in CALLS:
+                if call not in (fits, is_parting):
+                    self.assertEqual(call(wide, home, *rest(())), ())
         for call, rest in CALLS:
             call(wide, "cell", *rest(lot))
         self.assertTrue(share(wide, "cell", *lot))
