@@ -141,8 +141,12 @@ class Plans:
     def plans_of(self, seat):
         """List the Plans of the RULES of a PROCEDURE that is gone to so often."""
         if seat not in self.known:
-            self.known[seat] = [
-                Plan(self.program, self.ports, seat, number)
-                for number in range(len(self.program[seat[0]][2]))
-            ]
+            self.known[seat] = self.lay_plans(seat)
         return self.known[seat]
+
+    def lay_plans(self, seat):
+        """Make these Plans."""
+        return [
+            Plan(self.program, self.ports, seat, number)
+            for number in range(len(self.program[seat[0]][2]))
+        ]

@@ -36,10 +36,9 @@ def spans(program, tree, lot):
     return tuple(spans_in(run_of(frozen(program), frozen(tree)), frozen(lot)))
 
 
-def spoilt(program, tree, lot, many):
-    """Give the triples (use, made, found) of the uses that find another value in a round."""
-    walk = run_of(frozen(program), frozen(tree))
-    made = walk.values_in(frozen(lot))
+def spoilt_in(walk, lot, many):
+    """List the triples (use, made, found) of the uses that find another value in a round."""
+    made = walk.values_in(lot)
     numbers = {value: at for at, value in enumerate(made)}
     found, behind = [], 0
     for event in range(len(walk.steps)):
@@ -51,7 +50,13 @@ def spoilt(program, tree, lot, many):
                     found.append((event, value, made[at]))
         if event in numbers:
             behind += 1
-    return tuple(found)
+    return found
+
+
+def spoilt(program, tree, lot, many):
+    """Give the triples (use, made, found) of the uses that find another value in a round."""
+    walk = run_of(frozen(program), frozen(tree))
+    return tuple(spoilt_in(walk, frozen(lot), many))
 
 
 def can_be_cell(program, lot):

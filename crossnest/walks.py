@@ -19,6 +19,8 @@ class Walk:
         # How many EVENTS are ahead of the first go to each node: None if there is no go.
         self.entered = [None for _ in self.paths]
         self.entered[0] = ROOT_KNOWN
+        # The nodes that are gone to, in the order in which they are first.
+        self.order = [0]
         # By node, visit and number of a STEP: how many EVENTS are ahead of it.
         self.stood = {}
         # One row for each EVENT: its node, visit and number in the row, the visit of the
@@ -77,6 +79,7 @@ class Walk:
                 kid = self.kids[node][step[1]]
                 if self.entered[kid] is None:
                     self.entered[kid] = len(self.steps)
+                    self.order.append(kid)
                 frames.append([kid, self.gone[kid], 0])
                 self.gone[kid] += 1
             else:

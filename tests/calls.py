@@ -1,8 +1,8 @@
 """A call of each function that the package has so far, with its arguments by name."""
 
 from crossnest import (
-    alive, alives, choices, depths, entries, frames, inplace, lots, openings, patterns, profiles,
-    programs, queues, rounds, runs, stacks, trees,
+    alive, alives, changes, choices, code, depths, desk, entries, frames, harms, inplace, judge, layouts,
+    lots, openings, orders, patterns, profiles, programs, queues, rounds, runs, stacks, texts, trees,
 )
 from tests.samples import (
     A, AGAIN, ASKED, BOTH, BUSH, CHAIN, CROSS, CROSSED, D, DEEP, EMPTY_INS, FIVE, FIVE_NAMES, LEAF,
@@ -12,6 +12,13 @@ from tests.samples import (
 CELL = (("make", 0), ("make", 1), ("use", 0))
 X_AND_Y = ((1, "x"), (1, "y"))
 SLOW = (0, ((1, ()),))
+
+SUMS = ((((),), (("r",),), (((), ((
+    ("make", "x", ()), ("make", "y", ()), ("make", "p", ("x",)), ("make", "q", ("y",)), ("make", "r", ("p", "q")),
+),)),)),)
+SHALLOW = (TOP, (DEEP[1][0], DEEP[1][1], (LEAF,)))
+PARTS = (("cell", 0, ((0, "r"),)), ("round", 2, A), ("round", 2, ((1, "u"),)))
+CLAIM = ("stack", TWICE, A)
 
 DRAFT = (TOP, ((("d",),), (("u",),), (LEAF, ((1,), ((("go", 0),),)))))
 
@@ -189,4 +196,66 @@ CALLS = [
     (inplace.spoilt_in_place, {
         "program": MORE, "tree": (0, ()), "overs": ((0, 0, 0, 1, 0),),
     }),
+    (orders.is_order, {"program": SUMS, "procedure": 0, "rule": 0, "thing": ((1, 0, 2, 3, 4),)}),
+    (orders.orders_of, {"program": SUMS, "procedure": 0, "rule": 0}),
+    (orders.in_order, {"program": SUMS, "procedure": 0, "rule": 0, "order": ((0, 2, 1, 3, 4),)}),
+    (orders.in_orders, {"program": TWICE, "orders": ((((0, 2, 1, 3, 4),),), (((0,), (0,)),))}),
+    (orders.exchanged, {"program": SUMS, "procedure": 0, "rule": 0, "visit": 0, "step": 1}),
+    (orders.best_orders, {"program": TWICE, "home": "cell", "lot": A}),
+    (orders.fewest_by_orders, {"program": SUMS, "home": "cell", "lot": ((0, "x"), (0, "y"))}),
+    (orders.joined_visits, {"program": TWICE, "procedure": 1, "visit": 0}),
+    (changes.with_rule, {"program": SHALLOW, "procedure": 1, "rule": NODE}),
+    (changes.without_rule, {"program": DEEP, "procedure": 1, "rule": 1}),
+    (changes.renamed, {"program": DEEP, "procedure": 1, "name": "u", "other": "v"}),
+    (changes.split_name, {"program": FIVE, "procedure": 0, "rule": 1, "name": "b", "other": "z"}),
+    (changes.inlined, {"program": DEEP, "procedure": 0, "rule": 0, "place": 0}),
+    (changes.new_names, {"program": DEEP, "procedure": 0, "rule": 0, "place": 0}),
+    (changes.tree_inlined, {"program": DEEP, "procedure": 0, "rule": 0, "place": 0, "tree": CHAIN}),
+    (changes.turned, {"program": SHALLOW, "other": DEEP, "home": "cell", "lots": (D, ((1, "u"),))}),
+    (harms.shadow, {"program": DEEP, "procedure": 1, "tree": (1, ((0, ()),))}),
+    (harms.shadows, {"program": LENT, "procedure": 1}),
+    (harms.can_be_heard, {"program": TWICE}),
+    (harms.heard_tree, {"program": DEEP, "pair": (1, "d")}),
+    (harms.hangs_on, {"program": DEEP, "tree": CHAIN, "event": 4, "other": 1}),
+    (harms.heard_events, {"program": AGAIN, "tree": (0, ())}),
+    (harms.harmless_in, {"program": TWICE, "tree": BOTH, "lot": A, "many": 1}),
+    (harms.asked_terms, {"program": TWICE, "tree": BOTH}),
+    (harms.spoilt_terms, {"program": TWICE, "tree": BOTH, "lot": A, "many": 1}),
+    (layouts.origins, {"program": LENT}),
+    (layouts.is_layout, {"program": TWICE, "thing": PARTS}),
+    (layouts.serves, {"program": TWICE, "home": "queue", "number": 0, "lot": A}),
+    (layouts.spoiling, {"program": TWICE, "home": "homes", "number": 1, "lot": A}),
+    (layouts.is_spoiling, {
+        "program": TWICE, "home": "homes", "number": 1, "lot": A, "thing": (BOTH, (0, 1, 2)),
+    }),
+    (layouts.failing, {"program": TWICE, "layout": (("cell", 0, A), ("order", 0, A))}),
+    (layouts.cheapest, {"program": DEEP, "lot": D}),
+    (layouts.best_layout, {"program": TWICE, "lots": (((0, "r"),), A, ((1, "u"),))}),
+    (layouts.cost, {"layout": PARTS}),
+    (code.may_hold, {"program": LENT, "procedure": 1, "name": "y"}),
+    (code.bare, {"program": TWICE, "layout": PARTS}),
+    (code.frame_names, {"program": TWICE, "layout": PARTS}),
+    (code.code_of, {"program": TWICE, "layout": PARTS}),
+    (code.is_code, {"program": TWICE, "layout": PARTS, "thing": code.code_of(TWICE, PARTS)}),
+    (code.run_code, {"code": code.code_of(TWICE, PARTS), "tree": BOTH}),
+    (code.reads_due, {"program": DEEP, "tree": CHAIN}),
+    (judge.is_claim, {"thing": CLAIM}),
+    (judge.stands, {"claim": CLAIM}),
+    (judge.paper_against, {"claim": CLAIM}),
+    (judge.is_paper_against, {"claim": CLAIM, "thing": (BOTH, (0, 1, 2, 3))}),
+    (judge.first_fallen, {"claims": (("queue", TWICE, A), ("homes", TWICE, A, 2), CLAIM)}),
+    (texts.word_text, {"word": (0, "u")}),
+    (texts.lot_word, {"lot": ((0, "r"), (1, "d"))}),
+    (texts.tree_word, {"tree": BOTH}),
+    (texts.program_text, {"program": TWICE}),
+    (texts.layout_text, {"layout": PARTS}),
+    (texts.word_read, {"word": "12.u"}),
+    (texts.lot_read, {"word": "0.r,1.d"}),
+    (texts.tree_read, {"word": "0(1(0),2)"}),
+    (texts.read_program, {"text": texts.program_text(TWICE)}),
+    (texts.read_layout, {"text": texts.layout_text(PARTS)}),
+    (desk.is_request, {"thing": "keep cell 0 0.x"}),
+    (desk.replies, {"program": DEEP, "text": "choose 0\nchoose 1\nknown\nprogram"}),
+    (desk.event_word, {"event": ((0, 1), 0, 2)}),
+    (desk.path_word, {"path": (0, 1)}),
 ]

@@ -3,8 +3,9 @@
 import unittest
 
 from crossnest import (
-    alive, alives, choices, depths, entries, errors, frames, inplace, lots, openings, patterns,
-    profiles, programs, queues, rounds, runs, stacks, trees,
+    alive, alives, board, changes, choices, code, depths, desk, engine, entries, errors, frames, harms,
+    inplace, judge, layouts, lots, openings, orders, patterns, profiles, programs, queues, rounds,
+    runs, stacks, texts, trees,
 )
 
 PROGRAMS = r'''
@@ -248,9 +249,178 @@ INPLACE = r'''
 raises NoRule(number=1)
 '''
 
+ORDERS = r'''
+>>> sums = ((((),), (("r",),), (((), ((("make", "x", ()), ("make", "y", ()), ("make", "p", ("x",)), ("make", "q", ("y",)), ("make", "r", ("p", "q"))),)),)),)
+>>> both, better = ((0, "x"), (0, "y")), exchanged(sums, 0, 0, 0, 1)
+>>> len(orders_of(sums, 0, 0)), orders_of(sums, 0, 0)[1], better == in_order(sums, 0, 0, ((0, 2, 1, 3, 4),)), fits(sums, "cell", both), fits(better, "cell", both)
+(6, ((0, 1, 3, 2, 4),), True, False, True)
+>>> best_orders(sums, "cell", both), fewest_by_orders(sums, "cell", ((0, "p"), (0, "q"), (0, "x"), (0, "y")))
+(((((0, 2, 1, 3, 4),),),), (2, ((((0, 1, 2, 3, 4),),),)))
+>>> best_orders(twice, "cell", ((1, "a"),)), best_orders(deep, "cell", ((1, "d"),))
+(((((0, 2, 1, 3, 4),),), (((0,), (0,)),)), None)
+>>> joined = joined_visits(twice, 1, 0)
+>>> joined[0][2][0][1][0][:2], joined[1][:2], fits(joined, "cell", ((1, "a"),))
+((('go', 0), ('go', 1)), (((),), (('u',),)), True)
+>>> exchanged(sums, 0, 0, 0, 3)
+raises Unfit()
+'''
+
+CHANGES = r'''
+>>> shallow = (top, (deep[1][0], deep[1][1], (leaf,)))
+>>> with_rule(shallow, 1, node) == deep, without_rule(deep, 1, 1) == shallow
+(True, True)
+>>> turned(shallow, deep, "cell", (((1, "d"),), ((1, "u"),))), split_name(five, 0, 1, "b", "z")[0][2][1][1][0][0]
+((((1, 'd'),),), ('make', 'z', ()))
+>>> renamed(deep, 1, "u", "v")[0][2][0][1][0][2], inlined(twice, 0, 0, 0)[0][2][0][0]
+(('make', 'r', ((0, 'v'),)), (1,))
+>>> inlined(deep, 0, 0, 0)[0][2][0], inlined(deep, 0, 0, 0)[0][2][1][1][0][:2]
+(((), ((('make', 'a', ()), ('make', 'b', ('a',)), ('make', 'r', ('b',))),)), (('make', 'a', ()), ('make', (0, 'd'), ('a',))))
+>>> new_names(deep, 0, 0, 0), tree_inlined(deep, 0, 0, 0, chain), fits(inlined(deep, 0, 0, 0), "cell", ((0, "a"),))
+((('d', 'a'), ('u', 'b')), (1, ((0, ()),)), True)
+>>> inlined(deep, 0, 0, 1)
+raises Unfit()
+'''
+
+HARMS = r'''
+>>> shadow(deep, 1, (0, ())), shadow(deep, 1, (1, ((0, ()),))), shadows(deep, 1), shadows(once, 0)
+((('d', 'u'),), (('d', 'u'),), ((('d', 'u'),),), ((),))
+>>> can_be_heard(twice), heard_tree(once, (0, "x")), heard_tree(again, (0, "p"))
+(((0, 'r'), (1, 'a'), (1, 'u')), (0, ()), None)
+>>> hangs_on(once, (0, ()), 1, 0), heard_events(once, (0, ())), asked_terms(once, (0, ()))
+(True, (0, 1), (((((), 0, 1), (((), 0, 0),)),),))
+>>> pair = (0, ((0, ()), (0, ())))
+>>> harmless_in(twice, pair, ((1, "a"),), 1), harmless_in(twice, pair, ((1, "a"),), 2), harmless_in(once, (0, ()), ((0, "x"),), 1)
+(False, True, True)
+>>> spoilt_terms(twice, pair, ((1, "a"),), 1) == asked_terms(twice, pair), spoilt_terms(twice, pair, ((1, "a"),), 2) == asked_terms(twice, pair)
+(False, True)
+'''
+
+LAYOUTS = r'''
+>>> both, kept = (0, ((0, ()), (0, ()))), ((1, "a"),)
+>>> origins(deep), is_layout(once, (("cell", 0, ((0, "r"), (0, "x"))),)), is_layout(once, (("cell", 0, ((0, "r"),)),))
+(((0, 'r'), (1, 'd'), (1, 'u')), True, False)
+>>> [serves(twice, home, 0, kept) for home in ("cell", "stack", "queue", "region", "order")], serves(twice, "homes", 1, kept)
+([False, False, True, False, True], False)
+>>> is_spoiling(twice, "stack", 0, kept, (both, (0, 1, 2, 3))), is_spoiling(twice, "region", 0, kept, (both, (0, 1, 3))), is_spoiling(twice, "homes", 1, kept, (both, (0, 1, 2)))
+(True, True, True)
+>>> cheapest(deep, ((1, "d"),)), cheapest(deep, ((0, "r"), (1, "u"))), failing(twice, (("cell", 0, ((0, "r"), (1, "u"))), ("order", 0, kept)))
+(('stack', 0), ('cell', 0), (0,))
+>>> layout = best_layout(twice, (((0, "r"),), kept, ((1, "u"),)))
+>>> layout, cost(layout)
+((('cell', 0, ((0, 'r'),)), ('round', 2, ((1, 'a'),)), ('round', 2, ((1, 'u'),))), (0, 0, 5))
+>>> spoiling(once, "cell", 0, ((0, "x"),))
+raises CanNot()
+>>> best_layout(twice, (((0, "r"),), kept))
+raises Unfit()
+'''
+
+ENGINE = r'''
+>>> stacked = (("cell", 0, ((0, "r"),)), ("stack", 0, ((1, "a"),)), ("round", 2, ((1, "u"),)))
+>>> engine = Engine(twice, stacked)
+>>> engine.wants(), engine.choose(0), engine.wants(), engine.choose(0), engine.step()
+((), None, (0,), None, 0)
+>>> engine.wants(), engine.tree(), engine.alive(), engine.kept(1)
+((1,), (0, ((0, ()), None)), (0,), (0,))
+>>> other = engine.twin()
+>>> engine.choose(0), engine.go_on(), engine.ended(), engine.misread(), engine.outs()
+(None, 6, True, ((3, 1),), ((('r', 4),),))
+>>> engine.kept(1), engine.kept(2), engine.tree(), other.wants(), other == engine
+((0,), (2, 3), (0, ((0, ()), (0, ()))), (1,), False)
+>>> engine.step()
+raises CanNot()
+>>> engine.choose(0)
+raises NothingDone()
+>>> other.choose(1)
+raises NoRule(number=1)
+>>> other.step()
+raises Unfit()
+'''
+
+CODE = r'''
+>>> code_of(once, (("cell", 0, ((0, "r"), (0, "x"))),))
+((('cell', 0),), ((((), ((('make', 0, None, ()), ('make', 0, None, ((0, None),))),)),),), (((0, None),),))
+>>> bare(twice, layout), frame_names(twice, layout), code_of(twice, layout)[1][1]
+(((0, 'r'),), ((), ('a', 'u')), (((), ((('make', 1, 'a', ()),), (('make', 2, 'u', ((None, 'a'),)),))),))
+>>> run_code(code_of(twice, layout), both), reads_due(twice, both) == run_code(code_of(twice, layout), both)
+([(), (), (0,), (1,), (2, 3), (4,)], True)
+>>> piled = (layout[0], ("stack", 0, ((1, "a"),)), layout[2])
+>>> run_code(code_of(twice, piled), both), may_hold(lent, 1, "y"), is_code(twice, piled, code_of(twice, layout))
+([(), (), (0,), (None,), (2, 3), (4,)], ((1, 'x'), (1, 'y')), False)
+>>> code_of(twice, (layout[0], ("region", 0, ((1, "a"),)), layout[2]))
+raises CanNot()
+'''
+
+JUDGE = r'''
+>>> pair, line, a, d = (0, ((0, ()), (0, ()))), (0, ((1, ((0, ()),)),)), ((1, "a"),), ((1, "d"),)
+>>> [stands((word, twice, a)) for word in ("cell", "stack", "queue", "region", "order", "deaf")], stands(("round", twice, a, 2)), stands(("homes", twice, a, 1))
+([False, False, True, False, True, False], True, False)
+>>> is_paper_against(("cell", twice, a), (pair, (0, 1, 2))), is_paper_against(("stack", twice, a), (pair, (0, 1, 2, 3))), is_paper_against(("stack", twice, a), (pair, (0, 1, 3, 2)))
+(True, True, False)
+>>> is_paper_against(("homes", twice, a, 1), (pair, (0, 1, 2))), is_paper_against(("region", twice, a), (pair, (0, 1, 3))), is_paper_against(("deaf", twice, a), (pair, (0, 4)))
+(True, True, True)
+>>> stands(("stack", deep, d)), is_paper_against(("queue", deep, d), (line, (0, 1, 2, 3))), is_paper_against(("cell", deep, d), (line, (0, 1, 3)))
+(True, True, True)
+>>> first_fallen((("cell", once, ((0, "x"),)), ("cell", twice, a)))[0], is_claim(("cell", once, ((0, "y"),)))
+(1, False)
+>>> stands(("sure", once, ()))
+raises Unfit()
+'''
+
+TEXTS = r'''
+>>> once = ((((),), (("r",),), (((), ((("make", "x", ()), ("make", "r", ("x",))),)),)),)
+>>> program_text(once)
+'procedure\nvisit - r\nrule\nrow\nmake x\nmake r x\n'
+>>> read_program(program_text(once)) == once, tree_word((1, ((0, ()), (2, ())))), tree_read("1(0,2)")
+(True, '1(0,2)', (1, ((0, ()), (2, ()))))
+>>> word_text((0, "u")), word_read("0.u"), word_read("u"), word_read("0."), lot_word(((0, "r"), (1, "d"))), lot_read("-")
+('0.u', (0, 'u'), 'u', None, '0.r,1.d', ())
+>>> layout_text((("cell", 0, ((1, "d"),)),)), read_layout("home round 2 -")
+('home cell 0 1.d\n', (('round', 2, ()),))
+>>> read_program("procedure\nvisit - r\nrow")
+raises BadLine(number=2)
+>>> read_program("procedure\nvisit - r\nrule")
+raises BadLine(number=3)
+>>> read_program("procedure\nvisit - r\nrule\nrow")
+raises Unfit()
+'''
+
+BOARD = r'''
+>>> board = Board(deep)
+>>> board.keep("stack", 0, ((1, "d"),)), board.keep("cell", 0, ((1, "d"),)), board.failing(), board.front()
+(None, None, (1,), ())
+>>> board.choose(0), board.front(), board.choose(1), board.least()
+((((), 0, 0),), (0,), (((0,), 0, 0),), (0, ((1, ((0, ()),)),)))
+>>> board.alive(), board.seen(), board.choose(0)
+((0, 1), (), (((0, 0), 0, 0), ((0,), 0, 2), ((), 0, 2), ((), 0, 3)))
+>>> board.front(), board.alive(), board.seen(), len(board.events()), board.known()
+(None, (), (1,), 6, (((), 0), ((0,), 1), ((0, 0), 0)))
+>>> board.strike(1, 1)
+raises CanNot()
+>>> board.undo(), board.undo(), board.strike(1, 1), board.failing()
+(None, None, None, ())
+>>> board.choose(0), board.leave(0), board.parts(), board.twin() == board
+((((0,), 0, 0), ((), 0, 2), ((), 0, 3)), None, (('cell', 0, ((1, 'd'),)),), True)
+>>> board.redo()
+raises NothingDone()
+'''
+
+DESK = r'''
+>>> replies(deep, "keep stack 0 1.d\nkeep cell 0 1.d\nfailing\nfront\nchoose 0\nfront\nchoose 1\nleast\nalive\nseen\nchoose 0")
+['done', 'done', '1', '-', '-/0/0', '0', '0/0/0', '0(1(0))', '0 1', '-', '0.0/0/0 0/0/2 -/0/2 -/0/3']
+>>> replies(deep, "choose 7\nchoose 0\nchoose 1\nchoose 0\nfront\nchoose 0\nknown\nstrike 1 1\nundo\nundo\nstrike 1 1\nleast")
+['refused NoRule', '-/0/0', '0/0/0', '0.0/0/0 0/0/2 -/0/2 -/0/3', 'end', 'refused CanNot', '-:0 0:1 0.0:0', 'refused CanNot', 'done', 'done', 'done', '0(0)']
+>>> replies(once, "program\nparts\nkeep round 2 0.x\nkeep cell 0 0.r\nparts\nleave 5\nkeep cell 1 0.x\nredo\nevents\nchoose 0\nevents")
+['procedure / visit - r / rule / row / make x / make r x', '-', 'done', 'done', 'round 2 0.x / cell 0 0.r', 'refused CanNot', 'refused Unfit', 'refused NothingDone', '-', '-/0/0 -/0/1 -/0/2', '-/0/0 -/0/1 -/0/2']
+>>> is_request("choose 01"), is_request("keep cell 0 x"), is_request("keep cell 0 0.x"), is_request("front "), path_word(()), event_word(((0, 1), 0, 2))
+(False, False, True, False, '-', '0.1/0/2')
+>>> replies(once, "front\nchoose")
+raises BadLine(number=1)
+'''
+
 MODULES = (
     errors, programs, trees, runs, alive, entries, choices, openings, profiles, patterns,
-    rounds, stacks, queues, lots, alives, depths, frames, inplace,
+    rounds, stacks, queues, lots, alives, depths, frames, inplace, orders, changes, harms, layouts,
+    engine, code, judge, texts, board, desk,
 )
 
 
@@ -295,7 +465,8 @@ class Examples(unittest.TestCase):
     def test_all(self):
         for text in (
                 PROGRAMS, TREES, RUNS, ALIVE, ENTRIES, PROFILES, PATTERNS, ROUNDS, STACKS,
-                QUEUES, LOTS, ALIVES, DEPTHS, FRAMES, INPLACE,
+                QUEUES, LOTS, ALIVES, DEPTHS, FRAMES, INPLACE, ORDERS, CHANGES, HARMS, LAYOUTS, ENGINE,
+                CODE, JUDGE, TEXTS, BOARD, DESK,
         ):
             self.check(text)
 
