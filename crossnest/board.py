@@ -106,7 +106,7 @@ class Board:
         check_rule(self.source, procedure, number)
         moved = {}
         for path, rule in self.rules.items():
-            is_there = procedure_at(self.source, self.going.least, path) == procedure
+            is_there = procedure_at(self.source, self.going.smallest, path) == procedure
             if is_there and rule == number:
                 raise CanNot()
             moved[path] = rule - 1 if is_there and rule > number else rule
@@ -153,11 +153,11 @@ class Board:
 
     def least(self):
         """Give the least TREE that has the RULES chosen."""
-        return self.going.least
+        return self.going.smallest
 
     def alive(self):
         """Give the set of the values that are alive now."""
-        return alive_at(self.source, self.going.least, self.going.many)
+        return alive_at(self.source, self.going.smallest, self.going.many)
 
     def failing(self):
         """Give the set of the positions of the parts whose home does not serve."""

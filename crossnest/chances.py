@@ -10,7 +10,7 @@ class Chances:
     """A RUN, with all that can be done by the callees that are open at a MOMENT."""
 
     def __init__(self, program, tree):
-        self.tree = tree
+        self.given = tree
         self.walk = run_of(program, tree)
         self.plans = Plans(program)
         self.slots = self.walk.slots_of_values()
@@ -96,7 +96,7 @@ class Chances:
         picks = self.way_to_use(value, moment)
         if picks is None:
             return None
-        tree = self.tree
+        tree = self.given
         for node, number in picks:
             part = self.best[self.seat_of(node)][number][1]
             tree = with_part(tree, self.walk.paths[node], part)

@@ -51,16 +51,16 @@ class Coding:
 
     def __init__(self, program, layout):
         check_layout(program, layout)
-        self.program, self.layout = program, layout
+        self.source, self.layout = program, layout
         # By ORIGIN the number of its part, by bare pair that of its cell.
-        self.part_of = {pair: at for at, part in enumerate(layout) for pair in part[2]}
+        self.parts_by = {pair: at for at, part in enumerate(layout) for pair in part[2]}
         self.cells = {}
         for pair, told in holdings(program).items():
-            parts = sorted({self.part_of[origin] for origin in told})
+            parts = sorted({self.parts_by[origin] for origin in told})
             if len(parts) == 1 and layout[parts[0]][0] == "cell":
                 self.cells[pair] = parts[0]
 
-    def source(self, pair, word):
+    def source_of(self, pair, word):
         """Give the SOURCE that tells a WORD of this pair."""
         return (self.cells[pair], None) if pair in self.cells else (None, word)
 
@@ -71,11 +71,11 @@ class Coding:
         pair = pair_of(at, rule, step[1])
         word = None if pair in self.cells else step[1]
         if step[0] == "make":
-            sources = [self.source(pair_of(at, rule, other), other) for other in step[2]]
-            return "make", self.part_of[pair], word, tuple(sources)
+            sources = [self.source_of(pair_of(at, rule, other), other) for other in step[2]]
+            return "make", self.parts_by[pair], word, tuple(sources)
         if word is None:
             return None
-        return "hand", word, self.source(pair_of(at, rule, step[2]), step[2])
+        return "hand", word, self.source_of(pair_of(at, rule, step[2]), step[2])
 
     def coded_rule(self, at, rule):
         """Give a RULE of the CODE."""
@@ -85,15 +85,15 @@ class Coding:
             rows.append(tuple([step for step in steps if step is not None]))
         return rule[0], tuple(rows)
 
-    def whole(self):
+    def told_code(self):
         """Give the CODE."""
         homes = [(home, number) for home, number, _ in self.layout]
         procedures = [
             tuple([self.coded_rule(at, rule) for rule in rules])
-            for at, (_, _, rules) in enumerate(self.program)
+            for at, (_, _, rules) in enumerate(self.source)
         ]
         asks = [
-            tuple([self.source((0, name), name) for name in names]) for names in self.program[0][1]
+            tuple([self.source_of((0, name), name) for name in names]) for names in self.source[0][1]
         ]
         return tuple(homes), tuple(procedures), tuple(asks)
 
@@ -108,13 +108,13 @@ def frame_names(program, layout):
     coding = Coding(frozen(program), frozen(layout))
     return tuple([
         tuple([name for name in own_names(procedure) if (at, name) not in coding.cells])
-        for at, procedure in enumerate(coding.program)
+        for at, procedure in enumerate(coding.source)
     ])
 
 
 def code_of(program, layout):
     """Give the CODE."""
-    return Coding(frozen(program), frozen(layout)).whole()
+    return Coding(frozen(program), frozen(layout)).told_code()
 
 
 def is_same(thing, other):
@@ -130,7 +130,7 @@ def is_same(thing, other):
 
 def is_code(program, layout, thing):
     """Tell whether thing is the CODE."""
-    return is_same(thing, Coding(frozen(program), frozen(layout)).whole())
+    return is_same(thing, Coding(frozen(program), frozen(layout)).told_code())
 
 
 def run_code(code, tree):

@@ -96,7 +96,7 @@ class Cutting(Guessing):
 
     def family(self, plan, at, words, parts):
         """Give the family from an act on of a value at these WORDS; parts are the callees'."""
-        words = words & plan.alive[at]
+        words = words & plan.needed[at]
         mark = (plan.seat, plan.number, at, words, tuple(parts))
         if mark not in self.composed:
             families = [self.families[part] for part in parts]
@@ -145,7 +145,7 @@ class Cutting(Guessing):
         past, first = way.extra
         is_row = act[0] == LEAVE and way.visit() < way.plan.seat[1]
         # Made within, guess 1 makes past needless: only first is asked for then.
-        unmade = way.seen[1] == UNSEEN and not is_coming(way.waiting, 1)
+        unmade = way.told_of[1] == UNSEEN and not is_coming(way.waiting, 1)
         if is_row and self.home == "region" and unmade:
             parts = self.past_parts(way, way.at, None, None)
             way.extra = (past + (self.family(way.plan, way.at + 1, way.held[0], parts),), first)
@@ -171,7 +171,7 @@ class Cutting(Guessing):
         if act[2] + 1 == way.plan.goes[act[1]] and not is_cut:
             return ()
         made = tuple([visit if visit > act[2] else -1 for visit in result[0]])
-        past = result[2] if way.seen[1] == UNSEEN else ()
+        past = result[2] if way.told_of[1] == UNSEEN else ()
         first = result[3] if made[1] >= 0 else NO_FAMILY
         return made, result[1][1:], past, first, result[4]
 

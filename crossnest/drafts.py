@@ -86,7 +86,7 @@ class Reading:
     """
 
     def __init__(self, draft, tables, procedure, rule):
-        self.outs = draft[procedure][1]
+        self.own_outs = draft[procedure][1]
         self.in_visits, self.out_visits = tables[procedure]
         self.callee_ins = [draft[callee][0] for callee in rule[0]]
         self.callee_tables = [tables[callee] for callee in rule[0]]
@@ -136,9 +136,9 @@ class Reading:
 
     def ends(self, visit):
         """Tell whether the row of this visit may end here."""
-        if not all([name in self.held for name in self.outs[visit]]):
+        if not all([name in self.held for name in self.own_outs[visit]]):
             return False
-        return visit + 1 < len(self.outs) or all([many > 0 for many in self.gone])
+        return visit + 1 < len(self.own_outs) or all([many > 0 for many in self.gone])
 
 
 def rule_fault(reading, rule):

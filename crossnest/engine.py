@@ -60,7 +60,7 @@ class Engine:
 
     def chances(self):
         """Give the Chances of the RUN; raise TooMany if there are too many PASSINGS."""
-        return chances_of(self.source, self.going.least)
+        return chances_of(self.source, self.going.smallest)
 
     def alive(self):
         """Give the set of the values alive at the MOMENT of now."""

@@ -28,9 +28,9 @@ class Going:
     none; rules is a dict."""
 
     def __init__(self, program, rules):
-        self.program, self.rules = program, rules
-        self.least = tree_by(program, rules, [told[1] for told in least_table(program)])
-        self.walk = run_of(program, self.least)
+        self.source, self.rules = program, rules
+        self.smallest = tree_by(program, rules, [told[1] for told in least_table(program)])
+        self.walk = run_of(program, self.smallest)
         # That node, and how many EVENTS are ahead of it.
         self.next_node, self.many = None, len(self.walk.steps)
         for node in reversed(self.walk.order):
@@ -43,7 +43,7 @@ class Going:
 
     def rules_there(self):
         """Give the RULES of the PROCEDURE of this node."""
-        return self.program[self.walk.procedures[self.next_node]][2]
+        return self.source[self.walk.procedures[self.next_node]][2]
 
     def rules_with(self, rule):
         """Give the RULES with this one at this node, too."""

@@ -18,7 +18,7 @@ class Growth:
 
     def __init__(self, program, kind):
         self.kind = kind
-        self.least = least_table(program)
+        self.smallest = least_table(program)
         # By size: what comes of TREES with so many nodes, maybe several times.
         self.coming = {}
         # By key: the results, each with its (size, TREE), and the states that wait for them.
@@ -35,7 +35,7 @@ class Growth:
             callees = self.kind.callees_of(key, rule)
             trees, size = [None for _ in callees], 1
             for place in places:
-                many, tree = self.least[callees[place]]
+                many, tree = self.smallest[callees[place]]
                 trees[place] = tree
                 size += many
             self.spread(key, rule, state, size, tuple(trees))

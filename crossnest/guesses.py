@@ -35,7 +35,7 @@ class Way:
         self.mark_of_course, self.at = state[0], state[1]
         # For each guess the WORDS at which its value stands, the visit in which it was made
         # (or -1), what is known of it, and the INS of this visit at which it stands.
-        self.held, self.made, self.seen, self.ins = state[2], state[3], state[4], state[5]
+        self.held, self.made, self.told_of, self.ins = state[2], state[3], state[4], state[5]
         # The rows of the visits that are done, and the moves of the one that is not.
         self.rows, self.moves = state[6], state[7]
         # For each place what is still to come of its callee's result: None before it is chosen.
@@ -43,10 +43,10 @@ class Way:
 
     def mark(self):
         """Give the state."""
-        alive = self.plan.alive[self.at]
+        alive = self.plan.needed[self.at]
         held = tuple([words & alive for words in self.held])
         return (
-            self.mark_of_course, self.at, held, self.made, self.seen, self.ins,
+            self.mark_of_course, self.at, held, self.made, self.told_of, self.ins,
             self.rows, self.moves, self.waiting, self.extra,
         )
 
@@ -70,15 +70,15 @@ class Way:
     def set_made(self, guess):
         """Let the value of a guess be made now."""
         self.made = replaced(self.made, guess, self.visit())
-        self.seen = replaced(self.seen, guess, INSIDE)
+        self.told_of = replaced(self.told_of, guess, INSIDE)
 
     def enter(self, ins):
         """Begin a visit, with the values of the guesses at these INS."""
         self.ins = ins
         for guess, words in enumerate(ins):
             self.set_held(guess, words)
-            if words and self.seen[guess] == UNSEEN:
-                self.seen = replaced(self.seen, guess, OUTSIDE)
+            if words and self.told_of[guess] == UNSEEN:
+                self.told_of = replaced(self.told_of, guess, OUTSIDE)
 
     def hand(self, act):
         """Do a hand."""
@@ -92,8 +92,8 @@ class Way:
         self.rows = self.rows + ((self.ins, outs, self.moves),)
         self.moves = tuple(range(len(self.moves)))
         for guess, words in enumerate(outs):
-            if words and self.seen[guess] == INSIDE:
-                self.seen = replaced(self.seen, guess, LEFT)
+            if words and self.told_of[guess] == INSIDE:
+                self.told_of = replaced(self.told_of, guess, LEFT)
 
 
 def replaced(row, at, part):
@@ -139,13 +139,13 @@ class Guessing:
         self.plans, self.pattern = plans, pattern
         self.lot = {pair: True for pair in lot}
         self.guesses = many_guesses(pattern)
-        self.known = {}
+        self.stored = {}
 
     def courses(self, seat):
         """List the Courses of the PROCEDURE of a SEAT."""
-        if seat not in self.known:
-            self.known[seat] = self.lay_courses(seat)
-        return self.known[seat]
+        if seat not in self.stored:
+            self.stored[seat] = self.lay_courses(seat)
+        return self.stored[seat]
 
     def lay_courses(self, seat):
         """Make these Courses."""
@@ -161,7 +161,7 @@ class Guessing:
 
     def callees_of(self, key, rule):
         """Give the callees of this RULE."""
-        return self.plans.program[key[0][0]][2][rule][0]
+        return self.plans.source[key[0][0]][2][rule][0]
 
     def starts(self, key):
         """List the Courses as they begin, and the places to which they do not go."""
@@ -212,7 +212,7 @@ class Guessing:
         if act[0] == ENTER:
             guesses = [
                 guess for guess in range(self.guesses)
-                if way.seen[guess] != INSIDE and not is_coming(way.waiting, guess)
+                if way.told_of[guess] != INSIDE and not is_coming(way.waiting, guess)
             ]
             for ins in spread_ins(way.plan.own, act[1], guesses, self.guesses):
                 more = way.twin()
@@ -222,7 +222,7 @@ class Guessing:
             chosen = [None]
             chosen.extend([
                 guess for guess in range(self.guesses)
-                if self.may_make(way.seen, guess) and not is_coming(way.waiting, guess)
+                if self.may_make(way.told_of, guess) and not is_coming(way.waiting, guess)
             ])
             for guess in chosen:
                 more = way.twin()
@@ -269,7 +269,7 @@ class Guessing:
                 return False
         for guess in range(self.guesses):
             if result[0][guess] == turn:
-                if not self.may_make(way.seen, guess):
+                if not self.may_make(way.told_of, guess):
                     return False
                 way.set_made(guess)
             way.set_held(guess, outs[guess] << offset)

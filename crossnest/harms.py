@@ -30,10 +30,11 @@ def hung_on(walk, values):
     """Give a dict with these values and all on which they hang as keys."""
     found, waiting = {value: True for value in values}, list(values)
     while waiting:
-        for value in walk.used_by(waiting.pop()):
-            if value not in found:
-                found[value] = True
-                waiting.append(value)
+        value = waiting.pop()
+        for other in walk.used_by(value):
+            if other not in found:
+                found[other] = True
+                waiting.append(other)
     return found
 
 
@@ -121,10 +122,11 @@ def terms_told(walk, spoilt_uses):
     check_terms(walk, rows, told)
     needed, waiting = {value: True for value in told}, list(told)
     while waiting:
-        for value in rows[waiting.pop()]:
-            if value not in needed:
-                needed[value] = True
-                waiting.append(value)
+        value = waiting.pop()
+        for other in rows[value]:
+            if other not in needed:
+                needed[other] = True
+                waiting.append(other)
     terms = {}
     for value in sorted(needed):
         terms[value] = (walk.event_at(value),) + tuple([terms[other] for other in rows[value]])

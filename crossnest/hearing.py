@@ -42,8 +42,8 @@ class HangingPlans(Plans):
     def lay_plans(self, seat):
         """Make the Plans of a SEAT."""
         return [
-            Hanging(self.program, self.ports, seat, number)
-            for number in range(len(self.program[seat[0]][2]))
+            Hanging(self.source, self.ports, seat, number)
+            for number in range(len(self.source[seat[0]][2]))
         ]
 
 

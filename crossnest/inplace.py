@@ -16,7 +16,7 @@ class Overwriting(Tracing):
     """A search for a make, an EVENT of a SPOT whose source holds its value, and a later use."""
 
     def __init__(self, plans, spot):
-        pairs = {pair: True for pair in pairs_of(plans.program)}
+        pairs = {pair: True for pair in pairs_of(plans.source)}
         super().__init__(plans, Search((("make", 0, pairs), ("spot", 0, None), ("use", 0, None)), 1))
         self.spot = spot
 

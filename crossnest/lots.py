@@ -37,28 +37,28 @@ class Table:
     """Which pairs of a LOT share, as they are asked for; pairs are told by their places in it."""
 
     def __init__(self, program, home, lot):
-        self.program, self.home, self.lot = program, home, lot
-        self.known, self.spoiling = {}, None
+        self.source, self.home, self.lot = program, home, lot
+        self.stored, self.spoiling = {}, None
 
     def find_spoiling(self):
         """Find all tuples of pairs values of which spoil the home, if it has a PATTERN."""
-        told = pairs_taking(self.program, self.lot, pattern_of(self.home, 1))
+        told = pairs_taking(self.source, self.lot, pattern_of(self.home, 1))
         self.spoiling = {pairs: True for pairs in told}
 
     def do_share(self, one, other):
         """Tell whether two pairs of the LOT share."""
         mark = (min(one, other), max(one, other))
-        if mark not in self.known:
+        if mark not in self.stored:
             pairs = [self.lot[mark[0]], self.lot[mark[1]]]
             if self.home == "region" or self.home == "order":
                 lot = tuple(sorted({pair: True for pair in pairs}))
-                self.known[mark] = does_fit(self.program, self.home, lot)
+                self.stored[mark] = does_fit(self.source, self.home, lot)
             else:
                 if self.spoiling is None:
                     self.find_spoiling()
                 twos = [(pair, two) for pair in pairs for two in pairs]
-                self.known[mark] = not any([two in self.spoiling for two in twos])
-        return self.known[mark]
+                self.stored[mark] = not any([two in self.spoiling for two in twos])
+        return self.stored[mark]
 
     def is_good(self, at):
         """Tell whether a pair shares with itself."""

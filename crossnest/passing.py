@@ -45,7 +45,7 @@ class Passing:
         if at == len(plan.acts):
             return [(None, coded(told, plan.own.width))]
         place = plan.acts[at][1]
-        left = tuple([stream & plan.alive[at] for stream in streams])
+        left = tuple([stream & plan.needed[at] for stream in streams])
         rest = tuple([rest_of(plan, at, where, member) for where, member in enumerate(members)])
         wanted = (plan.callees[place], plan.goes[place])
         return [(wanted, (state[0], state[1], at, left, tuple(told), rest))]
@@ -97,7 +97,7 @@ def members_of(plans, growth, seat):
 
 def all_passings(plans, seats):
     """Give a dict with, for each of these SEATS, its members; raise TooMany as [7] has it."""
-    growth = Rush(plans.program, Passing(plans, True))
+    growth = Rush(plans.source, Passing(plans, True))
     for seat in seats:
         growth.ask(seat)
     for procedure, ports in enumerate(plans.ports):
@@ -119,10 +119,10 @@ def grown_best(plans, seats, growth):
 
 def best_passings(plans, seats):
     """Give a dict with, for each of these SEATS, the pairs (member, TREE) that do the most."""
-    return grown_best(plans, seats, Growth(plans.program, Passing(plans, False)))
+    return grown_best(plans, seats, Growth(plans.source, Passing(plans, False)))
 
 
 def best_members(plans, seats):
     """Give a dict with, for each of these SEATS, the members that do the most, ascending."""
-    best = grown_best(plans, seats, Rush(plans.program, Passing(plans, False)))
+    best = grown_best(plans, seats, Rush(plans.source, Passing(plans, False)))
     return {seat: sorted([member for member, _ in best[seat]]) for seat in seats}

@@ -63,7 +63,7 @@ class Plan:
         self.begins, self.behind = [], {}
         for visit in range(many):
             self.lay_row(visit)
-        self.alive = self.lay_alive()
+        self.needed = self.lay_alive()
 
     def lay_words(self, names):
         """Give each WORD its bit."""
@@ -134,19 +134,19 @@ class Plans:
     """The Plans of a PROGRAM, made as they are asked for."""
 
     def __init__(self, program):
-        self.program = program
+        self.source = program
         self.ports = [Ports(procedure) for procedure in program]
-        self.known = {}
+        self.stored = {}
 
     def plans_of(self, seat):
         """List the Plans of the RULES of a PROCEDURE that is gone to so often."""
-        if seat not in self.known:
-            self.known[seat] = self.lay_plans(seat)
-        return self.known[seat]
+        if seat not in self.stored:
+            self.stored[seat] = self.lay_plans(seat)
+        return self.stored[seat]
 
     def lay_plans(self, seat):
         """Make these Plans."""
         return [
-            Plan(self.program, self.ports, seat, number)
-            for number in range(len(self.program[seat[0]][2]))
+            Plan(self.source, self.ports, seat, number)
+            for number in range(len(self.source[seat[0]][2]))
         ]

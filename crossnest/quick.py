@@ -39,8 +39,8 @@ class Profiles:
     """The PROFILES of all SEATS of a PROGRAM for a quick LOT, each with its least TREE."""
 
     def __init__(self, program, lot):
-        self.program, self.lot = program, lot
-        self.least = least_table(program)
+        self.source, self.lot = program, lot
+        self.smallest = least_table(program)
         self.table = {seat: {} for seat in seats_of(program)}
         changed = True
         while changed:
@@ -52,7 +52,7 @@ class Profiles:
 
     def improve(self, seat, number):
         """Take in what comes of a RULE at a SEAT; tell whether there was anything new."""
-        rule, changed = self.program[seat[0]][2][number], False
+        rule, changed = self.source[seat[0]][2][number], False
         found = self.alone(seat, number, rule)
         for place, visits in enumerate(visits_of_goes(rule, seat[1])):
             if visits:
@@ -67,7 +67,7 @@ class Profiles:
 
     def tree_with(self, rule, number, place, part):
         """Give the least (size, TREE) of a RULE with this (size, TREE) at a place."""
-        parts = [self.least[callee] for callee in rule[0]]
+        parts = [self.smallest[callee] for callee in rule[0]]
         if place is not None:
             parts[place] = part
         return joined(number, parts)
@@ -87,8 +87,8 @@ class Profiles:
         """List the PROFILES of values made here and used by a callee's RULE, or the other way."""
         found, callee = [], rule[0][place]
         makes, uses = own_deeds(rule, seat[1])
-        for at, other in enumerate(self.program[callee][2]):
-            part = least_of_rule(self.program, callee, at, self.least)
+        for at, other in enumerate(self.source[callee][2]):
+            part = least_of_rule(self.source, callee, at, self.smallest)
             told = self.tree_with(rule, number, place, part)
             inner_makes, inner_uses = own_deeds(other, len(visits))
             for word, made in makes:

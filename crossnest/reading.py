@@ -24,15 +24,15 @@ class ProgramLines:
     def __init__(self):
         self.procedures = []
 
-    def rules(self):
+    def last_rules(self):
         """Give the RULES of the last PROCEDURE."""
         return self.procedures[-1][2]
 
     def is_whole_rule(self):
         """Tell whether the last PROCEDURE has a RULE, the last one with as many rows as visits."""
-        if len(self.procedures) == 0 or len(self.rules()) == 0:
+        if len(self.procedures) == 0 or len(self.last_rules()) == 0:
             return False
-        return len(self.rules()[-1][1]) == len(self.procedures[-1][0])
+        return len(self.last_rules()[-1][1]) == len(self.procedures[-1][0])
 
     def may_end(self):
         """Tell whether the text may end here."""
@@ -81,17 +81,17 @@ class ProgramLines:
 
     def take_row(self):
         """Begin a row."""
-        if len(self.rules()) == 0 or self.is_whole_rule():
+        if len(self.last_rules()) == 0 or self.is_whole_rule():
             return False
-        self.rules()[-1][1].append([])
+        self.last_rules()[-1][1].append([])
         return True
 
     def take_step(self, words):
         """Read a STEP."""
         step = step_read(words)
-        if step is None or len(self.rules()) == 0 or len(self.rules()[-1][1]) == 0:
+        if step is None or len(self.last_rules()) == 0 or len(self.last_rules()[-1][1]) == 0:
             return False
-        self.rules()[-1][1][-1].append(step)
+        self.last_rules()[-1][1][-1].append(step)
         return True
 
     def told(self):

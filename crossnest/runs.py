@@ -38,12 +38,12 @@ def node_at(walk, tree, path):
 
 def has_word(walk, node, word):
     """Tell whether word is one at which a value can come to stand at this node."""
-    procedure, rule = walk.program[walk.procedures[node]], walk.rule_of(node)
+    procedure, rule = walk.source[walk.procedures[node]], walk.rule_of(node)
     if isinstance(word, str):
         return word in all_names(procedure[0] + procedure[1]) or word in local_names(procedure, rule)
     if len(word) != 2 or not 0 <= word[0] < len(rule[0]):
         return False
-    callee = walk.program[rule[0][word[0]]]
+    callee = walk.source[rule[0][word[0]]]
     return word[1] in all_names(callee[0] + callee[1])
 
 

@@ -98,7 +98,7 @@ class Scenes:
     of those values of a LOT that the node itself made and that are alive."""
 
     def __init__(self, program, lot):
-        self.program = program
+        self.source = program
         self.plans = Plans(program)
         self.counted = {pair: True for pair in lot}
         # For each PROCEDURE the ports at which values of the LOT can stand: the others do not
@@ -136,7 +136,7 @@ class Scenes:
 
     def starting_statuses(self):
         """List the statuses of the root."""
-        many = len(self.program[0][0])
+        many = len(self.source[0][0])
         within = [(0, many, done, 1) for done in range(many)]
         return within + [(0, many, done, 0) for done in range(1, many)]
 

@@ -42,7 +42,7 @@ def is_seen(going, part):
         return is_pattern_seen(going, pattern_of(home, number), lot)
     if home == "heap":
         return False
-    chances = chances_of(going.program, going.least)
+    chances = chances_of(going.source, going.smallest)
     lasts = [
         (value, chances.last_of(value)) for value in going.walk.values_in(lot) if value < going.many
     ]

@@ -73,7 +73,7 @@ def rest_of(plan, at, place, member):
         return ()
     ins = plan.ports[place].ins_by_visit[gone:]
     kept = {1 + port: True for ports in ins for port in ports}
-    read = 1 | (plan.alive[at] >> plan.offsets[place]) << 1
+    read = 1 | (plan.needed[at] >> plan.offsets[place]) << 1
     return tuple([does & read if number in kept else 0 for number, does in enumerate(member)])
 
 
@@ -124,7 +124,7 @@ def compose_all(plan, at, inside, families):
         for streams, told, chosen in states:
             streams, told = list(streams), list(told)
             stop = advance(plan, at, streams, told, chosen)
-            alive = tuple([stream & plan.alive[stop] for stream in streams])
+            alive = tuple([stream & plan.needed[stop] for stream in streams])
             rest = [rest_of(plan, stop, place, part) for place, part in enumerate(chosen)]
             left[(alive, tuple(told), tuple(rest))] = True
         if stop == len(plan.acts):

@@ -60,7 +60,7 @@ class Trip:
 
     def state(self):
         """Give the state."""
-        alive = self.plan.alive[self.at]
+        alive = self.plan.needed[self.at]
         held = tuple([words & alive for words in self.held])
         return (
             self.mark_of_course, self.at, self.phase, held, self.begun, self.rows, self.left,
@@ -149,7 +149,7 @@ class Trip:
 
     def is_lost(self):
         """Tell whether a value that was made inside, and is followed, can not be read any more."""
-        alive = self.plan.alive[self.at]
+        alive = self.plan.needed[self.at]
         for guess, words in enumerate(self.held):
             if self.left[guess] == INSIDE and words & alive == 0:
                 if self.search.follows(guess, self.phase):
@@ -162,13 +162,13 @@ class Tracing:
 
     def __init__(self, plans, search):
         self.plans, self.search = plans, search
-        self.known, self.groups = {}, {}
+        self.stored, self.groups = {}, {}
 
     def courses(self, seat):
         """List the Courses of the PROCEDURE of a SEAT."""
-        if seat not in self.known:
-            self.known[seat] = whole_courses(self.plans, seat)
-        return self.known[seat]
+        if seat not in self.stored:
+            self.stored[seat] = whole_courses(self.plans, seat)
+        return self.stored[seat]
 
     def trip_of(self, state):
         """Give the Trip of a state."""
@@ -176,12 +176,12 @@ class Tracing:
 
     def callees_of(self, key, rule):
         """Give the callees of this RULE."""
-        return self.plans.program[key[0][0]][2][rule][0]
+        return self.plans.source[key[0][0]][2][rule][0]
 
     def start_key(self):
         """Give the key of the start."""
         none = tuple([0 for _ in range(self.search.guesses)])
-        return (0, len(self.plans.program[0][0])), 0, none, False
+        return (0, len(self.plans.source[0][0])), 0, none, False
 
     def first_extra(self):
         """Give what a state keeps besides, at its start."""

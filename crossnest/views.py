@@ -13,7 +13,7 @@ class View:
     """
 
     def __init__(self, program, seat, rule, place, inner):
-        self.program, self.place, self.length = program, place, 0
+        self.source, self.place, self.length = program, place, 0
         # Triples (slot, pair, position), pairs (slot, position), and positions of goes.
         self.makes, self.uses, self.goes = [], [], {}
         self.callees = {}
@@ -76,7 +76,7 @@ class View:
         found, callee = [], slot[:2]
         if len(slot) == 3 and callee in self.goes:
             goes = self.goes[callee]
-            for rule in self.program[self.callees[callee]][2]:
+            for rule in self.source[self.callees[callee]][2]:
                 for word, visit in own_deeds(rule, len(goes))[1]:
                     if word == slot[2]:
                         found.append((pair, made, goes[visit], callee))
@@ -85,7 +85,7 @@ class View:
     def made_within(self, callee, lot):
         """List the values that a RULE of this callee makes at an OUT and that are used here."""
         found, goes, number = [], self.goes[callee], self.callees[callee]
-        for rule in self.program[number][2]:
+        for rule in self.source[number][2]:
             for word, visit in own_deeds(rule, len(goes))[0]:
                 if isinstance(word, str) and (number, word) in lot:
                     found.extend([

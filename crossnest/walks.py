@@ -11,7 +11,7 @@ class Walk:
     """The EVENTS of a TREE of a PROCEDURE that is gone to so often."""
 
     def __init__(self, program, tree, procedure, visits, asks):
-        self.program = program
+        self.source = program
         self.paths, self.procedures, self.rules = [], [], []
         self.callers, self.kids = [], []
         self.lay_nodes(tree, procedure)
@@ -48,13 +48,13 @@ class Walk:
             self.kids.append([])
             if caller is not None:
                 self.kids[caller].append(node)
-            callees = self.program[number][2][rule][0]
+            callees = self.source[number][2][rule][0]
             for place in reversed(range(len(trees))):
                 waiting.append((path + (place,), callees[place], trees[place], node))
 
     def rule_of(self, node):
         """Give the RULE of a node, as a value."""
-        return self.program[self.procedures[node]][2][self.rules[node]]
+        return self.source[self.procedures[node]][2][self.rules[node]]
 
     def slot_of(self, node, word):
         """Give the slot that a WORD of this node's RULE tells."""
@@ -113,7 +113,7 @@ class Walk:
 
     def ask(self, visit):
         """Do the asking of this visit of the start."""
-        names = self.program[0][1][visit]
+        names = self.source[0][1][visit]
         row = self.rule_of(0)[1][visit]
         event = self.add_event(0, visit, len(row), visit, ("ask", names))
         slots = [(0, name) for name in names]

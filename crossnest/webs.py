@@ -15,7 +15,7 @@ class Web:
 
     def __init__(self, program, kind):
         self.kind = kind
-        self.least = least_table(program)
+        self.smallest = least_table(program)
         # By what they stand for: the numbers of the nodes; and their edges.
         self.numbers, self.edges = {}, []
         # By key: the pairs (result, node), and the tuples (state, node, key, rule) that wait.
@@ -32,7 +32,7 @@ class Web:
             callees = self.kind.callees_of(key, rule)
             trees = [None for _ in callees]
             for place in places:
-                trees[place] = self.least[callees[place]][1]
+                trees[place] = self.smallest[callees[place]][1]
             self.spread(key, rule, state, (rule, tuple(trees)), ())
 
     def spread(self, key, rule, state, base, sources):
