@@ -1,6 +1,5 @@
 """A board: a PROGRAM, parts that are kept, and a RUN, changed by deeds that can be taken back."""
 
-from crossnest.alive import alive_at
 from crossnest.checks import check_procedure, check_rule
 from crossnest.errors import CanNot, NoRule, NothingDone, Unfit
 from crossnest.forms import frozen
@@ -157,7 +156,7 @@ class Board:
 
     def alive(self):
         """Give the set of the values that are alive now."""
-        return alive_at(self.source, self.going.smallest, self.going.many)
+        return self.going.alive_by(self.going.many)
 
     def failing(self):
         """Give the set of the positions of the parts whose home does not serve."""

@@ -1,6 +1,5 @@
 """An engine: it makes a RUN, its RULES being chosen as it goes, and keeps values in homes."""
 
-from crossnest.alive import chances_of
 from crossnest.errors import CanNot, NoRule, NothingDone, Unfit
 from crossnest.forms import frozen
 from crossnest.goings import Going, tree_by
@@ -58,47 +57,42 @@ class Engine:
         """Give the RULES chosen, None for a node that has none."""
         return tree_by(self.source, self.rules, [None for _ in self.source])
 
-    def chances(self):
-        """Give the Chances of the RUN; raise TooMany if there are too many PASSINGS."""
-        return chances_of(self.source, self.going.smallest)
-
     def alive(self):
         """Give the set of the values alive at the MOMENT of now."""
-        told, walk = self.chances(), self.going.walk
-        return tuple([
-            value for value in range(self.behind)
-            if walk.makes_value(value) and told.is_alive(value, self.behind)
-        ])
+        return self.going.alive_by(self.behind)
 
-    def losses(self):
-        """List, for each part, a pair: its values made so far, and for each that is lost in all the
-        RUN of now the first MOMENT at which it is."""
-        told = None
+    def check_homes(self):
+        """Raise TooMany as alive_at does, if a home asks what is alive."""
         if [home for home, _, _ in self.layout if home in LASTING]:
-            told = self.chances()
-        users, found = self.going.users_by(self.behind), []
-        for home, number, lot in self.layout:
-            values = [value for value in self.going.walk.values_in(lot) if value < self.behind]
-            lasts = {}
-            if home in LASTING:
-                lasts = {value: told.last_of(value) for value in values}
-            found.append((values, lost_from(home, number, values, users, lasts)))
-        return found
+            self.going.check_passings()
+
+    def losses(self, part):
+        """Give a pair for a part: its values made so far, and for each that is lost the first
+        MOMENT at which it is; what comes behind the MOMENT of now is not told."""
+        home, number, lot = part
+        values = [value for value in self.going.walk.values_in(lot) if value < self.behind]
+        lasts = {}
+        if home in LASTING:
+            lasts = {value: self.going.last_of(value) for value in values}
+        users = self.going.users_by(self.behind)
+        return values, lost_from(home, number, values, users, lasts)
 
     def kept(self, number):
         """Give the set of the values of this part that are made and not lost."""
         if not 0 <= number < len(self.layout):
             raise Unfit()
-        values, lost = self.losses()[number]
+        self.check_homes()
+        values, lost = self.losses(self.layout[number])
         return tuple([
             value for value in values if value not in lost or lost[value] > self.behind
         ])
 
     def misread(self):
         """Give the set of the pairs (event, value) misread so far."""
+        self.check_homes()
         users, found = self.going.users_by(self.behind), []
-        for _, lost in self.losses():
-            for value, moment in lost.items():
+        for part in self.layout:
+            for value, moment in self.losses(part)[1].items():
                 found.extend([(event, value) for event in users.get(value, []) if event >= moment])
         return tuple(sorted(found))
 

@@ -1,5 +1,6 @@
 """A RUN as far as it has gone, its RULES being chosen on the way."""
 
+from crossnest.alive import chances_of
 from crossnest.leasts import least_table
 from crossnest.walks import run_of
 
@@ -36,6 +37,8 @@ class Going:
         for node in reversed(self.walk.order):
             if self.walk.paths[node] not in rules:
                 self.next_node, self.many = node, max(0, self.walk.entered[node])
+        # What was asked for so far: the Chances of the RUN, and the last MOMENTS of its values.
+        self.chances, self.lasts = None, {}
 
     def next_path(self):
         """Give the PATH of the first node that has no RULE, None if all that are gone to have one."""
@@ -50,6 +53,27 @@ class Going:
         rules = {path: told for path, told in self.rules.items()}
         rules[self.next_path()] = rule
         return rules
+
+    def last_of(self, value):
+        """Give the last MOMENT at which a value is alive, None if there is none; raise TooMany as
+        alive_at does. One that has not come yet tells just that the value is alive up to now."""
+        self.check_passings()
+        if value not in self.lasts:
+            self.lasts[value] = self.chances.last_of(value)
+        return self.lasts[value]
+
+    def check_passings(self):
+        """Raise TooMany as alive_at does."""
+        if self.chances is None:
+            self.chances = chances_of(self.source, self.smallest)
+
+    def alive_by(self, behind):
+        """Give the set of the values that are alive if so many EVENTS are behind."""
+        self.check_passings()
+        lasts = {value: self.last_of(value) for value in range(behind) if self.walk.makes_value(value)}
+        return tuple([
+            value for value, last in lasts.items() if last is not None and last >= behind
+        ])
 
     def users_by(self, behind):
         """Give a dict with, for each value, the EVENTS that use it, if so many are behind."""

@@ -162,7 +162,7 @@ def all_orders(program):
             if len(found) * len(rows) * len(orders) > MOST_OF_PROGRAM:
                 raise TooMany()
             rows = [row + (order,) for row in rows for order in orders]
-        found = [orders + (row,) for orders in found for row in rows]
+        found = [ahead + (row,) for ahead in found for row in rows]
     return found
 
 

@@ -1,6 +1,6 @@
 """What shows, in a RUN as far as it has gone (see goings), that a home does not serve."""
 
-from crossnest.alive import chances_of, most_at_once
+from crossnest.alive import most_at_once
 from crossnest.hunts import Showing
 from crossnest.layouts import LASTING, PATTERNED
 from crossnest.patterns import pattern_of
@@ -42,9 +42,9 @@ def is_seen(going, part):
         return is_pattern_seen(going, pattern_of(home, number), lot)
     if home == "heap":
         return False
-    chances = chances_of(going.source, going.smallest)
+    going.check_passings()
     lasts = [
-        (value, chances.last_of(value)) for value in going.walk.values_in(lot) if value < going.many
+        (value, going.last_of(value)) for value in going.walk.values_in(lot) if value < going.many
     ]
     if home in LASTING:
         return is_opening_seen(going, home, lasts)

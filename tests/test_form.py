@@ -115,7 +115,8 @@ def handed_on(tree, methods, bases, stored):
         outer = above[node]
         if isinstance(outer, ast.Call) and outer.func is node:
             continue
-        if isinstance(outer, ast.keyword) and outer.arg == "key" and node.attr in own:
+        is_key = isinstance(outer, ast.keyword) and outer.arg == "key"
+        if is_key and called(above[outer]) in ("sorted", "min", "max") and node.attr in own:
             continue
         near = outer
         while near is not None and not isinstance(near, ast.ClassDef):
@@ -292,7 +293,9 @@ class Form(unittest.TestCase):
                 ("return first(row, row.met)", True), ("return [row.met]", True), ("return {1: row.met}", True),
                 ("return row.many", False), ("return self.many", False), ("add = row.append", True),
                 ("return first(row.index)", True), ("return sorted(row, key=row.met)", False),
-                ("return sorted(row, key=row.index)", True), ("return lambda at: row.met(at)", False),
+                ("return sorted(row, key=row.index)", True), ("return first(row, key=row.met)", True),
+                ("return max(row, key=self.met)", False), ("row.sort(key=row.met)", True),
+                ("return lambda at: row.met(at)", False),
                 ("return row.met and row", True), ("return row.met(row).many", False),
                 ("return row.many.append", True), ("return row.append(self.met)", True),
         ):
