@@ -308,6 +308,19 @@ class Plain(unittest.TestCase):
         self.assertEqual(board.seen(), (0, 1, 2, 3, 5))
         self.assertEqual(len(board.events()), 6)
 
+    def test_seen_by_what_is_dead_by_now(self):
+        # The first callee is entered as x and y wait, the second one as one of them is used.
+        idle = (((),), ((),), (((), ((),)),))
+        for home, first, second in (("region", "x", "y"), ("order", "y", "x")):
+            row = (make("x"), make("y"), ("go", 0), make("p", first), ("go", 1), make("r", second))
+            board = Board(((((),), (("r",),), (((1, 1), (row,)),)), idle))
+            board.keep(home, 0, ((0, "x"), (0, "y")))
+            told = []
+            for _ in range(3):
+                board.choose(0)
+                told.append((len(board.events()), board.seen()))
+            self.assertEqual(told, [(2, ()), (3, (0,)), (5, (0,))])
+
     def test_too_many(self):
         board = Board(CROWDED)
         pairs = ((1, "a"), (1, "b"))

@@ -222,6 +222,12 @@ class Plain(unittest.TestCase):
         more = row_program(make("a"), *DOUBLING, make("r", "k"))
         self.assertEqual(error_told(asked_terms, more, (0, ())), ("TooMany",))
         self.assertEqual(error_told(spoilt_terms, more, (0, ()), (), 1), ("TooMany",))
+        # Of the values with 1, 3, .. 1,023 EVENTS in their TERMS: 2,000 together, and one more.
+        told = make("r", *"jihgfdbaa")
+        full = row_program(make("a"), *DOUBLING[:9], told)
+        self.assertEqual(size_of(asked_terms(full, (0, ()))[0][0]), 2000)
+        full = row_program(make("a"), *DOUBLING[:9], make("r", *"jihgfdbaaa"))
+        self.assertEqual(error_told(asked_terms, full, (0, ())), ("TooMany",))
         # What is not told does not count.
         quiet = row_program(make("a"), *DOUBLING, make("r", "a"))
         self.assertEqual(asked_terms(quiet, (0, ())), (((((), 0, 11), (((), 0, 0),)),),))

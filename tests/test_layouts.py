@@ -37,6 +37,20 @@ MIXED = (
 )
 
 
+def waiting_program(many):
+    """A start with so many values that wait, while its callees make nine others: a is used ahead of
+    b, d ahead of c."""
+    names = "abcdefg"[:many]
+    row = [("make", name, ()) for name in names] + [("go", place) for place in range(3)]
+    row.append(("make", "s", tuple(name for name in names if name not in "bc")))
+    none = (((),), ((),))
+    return (
+        (((),), (("b", "c", "s"),), (((1, 1, 1), (tuple(row),)),)),
+        none + ((((2, 2, 2), ((("go", 0), ("go", 1), ("go", 2)),)),),),
+        none + ((((), ((("make", "y", ()),),)),),),
+    )
+
+
 def plain_papers(program, tree, run, home, number, lot, alive=None):
     """The numbers of all PAPERS against a home that this TREE has."""
     if home in PATTERNS or home == "round":
@@ -143,6 +157,16 @@ class Plain(unittest.TestCase):
         both = ((1, "d"), (2, "a"))
         self.assertEqual(cheapest(MIXED, both), ("heap", 0))
         self.assertEqual([home for home in ROW if serves(MIXED, *home, both)], [("heap", 0)])
+
+    def test_rounds_and_homes_of_six(self):
+        for many, found in ((5, ("round", 5)), (6, ("round", 6)), (7, ("stack", 0))):
+            row = [("make", name, ()) for name in "abcdefg"[:many]] + [("make", "r", ("a",))]
+            program = ((((),), (("r",),), (((), (tuple(row),)),)),)
+            lot = tuple((0, name) for name in "abcdefg"[:many])
+            self.assertEqual(cheapest(program, lot), found)
+        # Many y, dead at once, are made while the others wait, which are used in no order at all.
+        for many, found in ((5, ("homes", 5)), (6, ("homes", 6)), (7, ("heap", 0))):
+            self.assertEqual(cheapest(waiting_program(many), tuple((0, name) for name in "abcdefg"[:many]) + ((2, "y"),)), found)
 
     def test_best_layout_and_cost(self):
         lots = (((0, "r"),), A, ((1, "u"),))

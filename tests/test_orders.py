@@ -32,6 +32,12 @@ HALVES = (
 )
 
 
+def rows_beside(one, other):
+    """A start that makes each of these letters of the one ahead of it, and r of both ends."""
+    steps = [make(name, *names[:at][-1:]) for names in (one, other) for at, name in enumerate(names)]
+    return row_program(*steps, make("r", one[-1], other[-1]))
+
+
 def plain_orders(program, procedure, rule):
     """All ORDERS, out of all ways to put the STEPS, one by one."""
     ins, outs, rules = program[procedure]
@@ -142,6 +148,15 @@ class Plain(unittest.TestCase):
         self.assertEqual(error_told(best_orders, program, "cell", ()), ("TooMany",) if many ** 2 > 200 else None)
         self.assertGreater(many ** 2, 200)
         self.assertLessEqual(many, 200)
+
+    def test_just_so_many_orders(self):
+        # Two rows of makes, each made of the one ahead: 10 ORDERS, 20, 21.
+        few, some, more = (rows_beside(one, other)[0][2][0] for one, other in (("ab", "cde"), ("abc", "def"), ("ab", "cdefg")))
+        self.assertEqual([len(orders_of(((((),), (("r",),), (rule,)),), 0, 0)) for rule in (few, some, more)], [10, 20, 21])
+        self.assertIsNotNone(best_orders(((((),), (("r",),), (few, some)),), "cell", ((0, "a"),)))
+        self.assertIsNone(error_told(fewest_by_orders, ((((),), (("r",),), (few, some)),), "stack", ((0, "a"),)))
+        for call in (best_orders, fewest_by_orders):
+            self.assertEqual(error_told(call, ((((),), (("r",),), (few, more)),), "cell", ((0, "a"),)), ("TooMany",))
 
     def test_too_many_of_the_home(self):
         wide = wide_program("abcde", "")
